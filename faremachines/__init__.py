@@ -1,0 +1,1 @@
+"""Faremachines: what the cheapest way through a machine costs."""

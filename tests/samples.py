@@ -1,0 +1,128 @@
+"""Machines for the tests, and answers that are worked out from the definitions, one row after another."""
+
+import itertools
+import random
+
+NONE = -1
+LETTERS = ("a", "b", "c", "d")
+
+# The machines of the document's examples.
+PLAIN = (("a", "b"), (0, 2), ((((0, 3),), ((1, 1),)), (((1, 1),), ((0, 0), (1, 5)))), (-1, 4))
+SINGLE = (("a",), (0,), ((((0, 1),),),), (0,))
+COUNTER = (("a", "b"), (0, 0), ((((0, 1),), ((0, 0),)), (((1, 0),), ((1, 1),))), (0, 0))
+SWAPPING = (("a",), (0, 3), ((((1, 2),),), (((0, 2),),)), (0, 0))
+
+# No log can be gone, as nothing leads from the first fare to the last one.
+STUCK = (("a",), (0, -1), ((((0, 0),),), (((1, 0),),)), (-1, 0))
+
+# State 1 leads nowhere, state 2 is never met; both of them have moves, and fares.
+HALF_USEFUL = (
+    ("a", "b"),
+    (0, 1, NONE),
+    (
+        (((0, 1), (1, 2)), ((1, 0),)),
+        (((1, 3),), ()),
+        (((0, 0), (1, 1), (2, 5)), ((2, 1),)),
+    ),
+    (0, NONE, 7),
+)
+
+
+def random_machine(source, states, letters, density, most=9):
+    """Return a machine of so many states and letters; density is the part of the fares that are there."""
+
+    def fare():
+        return source.randrange(most + 1) if source.random() < density else NONE
+
+    def row():
+        pairs = [(state, fare()) for state in range(states)]
+        return tuple([pair for pair in pairs if pair[1] != NONE])
+
+    firsts = tuple([fare() for _ in range(states)])
+    lasts = tuple([fare() for _ in range(states)])
+    moves = tuple([tuple([row() for _ in range(letters)]) for _ in range(states)])
+    return LETTERS[:letters], firsts, moves, lasts
+
+
+def random_machines(seed, many, states=3, letters=2):
+    """Return a list of machines of up to so many states and letters, from sparse ones to full ones."""
+    source = random.Random(seed)
+    machines = []
+    for _ in range(many):
+        size = source.randrange(1, states + 1)
+        width = source.randrange(1, letters + 1)
+        density = source.choice([0.2, 0.4, 0.6, 0.9])
+        machines.append(random_machine(source, size, width, density, source.choice([1, 9])))
+    return machines
+
+
+def logs_up_to(letters, longest):
+    """Return the list of all logs of at most so many letters, in the order of logs."""
+    return [log for length in range(longest + 1) for log in itertools.product(letters, repeat=length)]
+
+
+def step_fare(machine, state, letter, after):
+    """Return the fare of a move, or NONE."""
+    row = dict(machine[2][state][machine[0].index(letter)])
+    return row.get(after, NONE)
+
+
+def rows_along(machine, log, states=None):
+    """Return a list of all pairs of a row of states along a log, and the sum of its moves' fares."""
+    states = range(len(machine[1])) if states is None else states
+    found = []
+    for row in itertools.product(states, repeat=len(log) + 1):
+        fares = [step_fare(machine, row[at], letter, row[at + 1]) for at, letter in enumerate(log)]
+        if NONE not in fares:
+            found.append((row, sum(fares)))
+    return found
+
+
+def ways_of(machine, log):
+    """Return the list of all pairs (fare, way) of the ways of a log, in order."""
+    ways = []
+    for row, total in rows_along(machine, log):
+        first, last = machine[1][row[0]], machine[3][row[-1]]
+        if first != NONE and last != NONE:
+            ways.append((first + total + last, row))
+    return sorted(ways)
+
+
+def least(numbers):
+    """Return the least one of some numbers, or NONE."""
+    return min(numbers, default=NONE)
+
+
+def behind(machine, log):
+    """Return the fares behind a log."""
+    sums = [[] for _ in machine[1]]
+    for row, total in rows_along(machine, log):
+        if machine[1][row[0]] != NONE:
+            sums[row[-1]].append(machine[1][row[0]] + total)
+    return tuple([least(found) for found in sums])
+
+
+def ahead(machine, log):
+    """Return the fares from the beginning of a log."""
+    sums = [[] for _ in machine[1]]
+    for row, total in rows_along(machine, log):
+        if machine[3][row[-1]] != NONE:
+            sums[row[0]].append(total + machine[3][row[-1]])
+    return tuple([least(found) for found in sums])
+
+
+def useful_states(machine):
+    """Return the ascending list of the useful states, for machines of up to 4 states."""
+    logs = logs_up_to(machine[0], len(machine[1]) - 1)
+    met = [s for s in range(len(machine[1])) if any(behind(machine, log)[s] != NONE for log in logs)]
+    return [s for s in met if any(ahead(machine, log)[s] != NONE for log in logs)]
+
+
+def closed_useful(machine):
+    """Return the set of useful states, for machines of any size, from all steps between states."""
+    size = range(len(machine[1]))
+    leads = [[s == t or any(t in dict(row) for row in machine[2][s]) for t in size] for s in size]
+    for k in size:
+        leads = [[leads[s][t] or (leads[s][k] and leads[k][t]) for t in size] for s in size]
+    met = [t for t in size if any(machine[1][s] != NONE and leads[s][t] for s in size)]
+    return [s for s in met if any(machine[3][t] != NONE and leads[s][t] for t in size)]
