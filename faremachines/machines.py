@@ -69,28 +69,43 @@ def fares_ahead(machine, fares, letter):
     return tuple(found)
 
 
+def rows_behind(machine, fares, log):
+    """Return the list of some fares, and of those behind each letter of a log that comes then."""
+    rows = [fares]
+    for letter in log:
+        rows.append(fares_after(machine, rows[-1], letter))
+    return rows
+
+
+def rows_ahead(machine, fares, log):
+    """Return the list of the fares from ahead of each letter of a log, and of those that are told behind it."""
+    rows = [fares]
+    for letter in reversed(log):
+        rows.append(fares_ahead(machine, rows[-1], letter))
+    rows.reverse()
+    return rows
+
+
+def least_sum(fares, others):
+    """Return the least sum of two fares of one state, or NONE."""
+    return least_of([fare + other for fare, other in zip(fares, others) if NONE not in (fare, other)])
+
+
 def fares_behind(machine, log):
     """Return the fares behind a log."""
     check_log(machine[0], log)
-    fares = machine[1]
-    for letter in log:
-        fares = fares_after(machine, fares, letter)
-    return fares
+    return rows_behind(machine, machine[1], log)[-1]
 
 
 def fares_from(machine, log):
     """Return the fares from the beginning of a log."""
     check_log(machine[0], log)
-    fares = machine[3]
-    for letter in reversed(log):
-        fares = fares_ahead(machine, fares, letter)
-    return fares
+    return rows_ahead(machine, machine[3], log)[0]
 
 
 def fare_of(machine, log):
     """Return the fare of a log, or NONE."""
-    fares = fares_behind(machine, log)
-    return least_of([fare + last for fare, last in zip(fares, machine[3]) if NONE not in (fare, last)])
+    return least_sum(fares_behind(machine, log), machine[3])
 
 
 def cheapest_state(pairs, rests):
@@ -103,10 +118,7 @@ def cheapest_state(pairs, rests):
 def best_way(machine, log):
     """Return the first one, as a tuple, of the ways with the least fare, or None."""
     check_log(machine[0], log)
-    rests = [machine[3]]
-    for letter in reversed(log):
-        rests.append(fares_ahead(machine, rests[-1], letter))
-    rests.reverse()
+    rests = rows_ahead(machine, machine[3], log)
     state = cheapest_state(list(enumerate(machine[1])), rests[0])
     if state == NONE:
         return None
@@ -152,17 +164,23 @@ def fare_along(machine, log, row):
     return total
 
 
+def way_fare(machine, log, way):
+    """Return the fare of a way of a log, NONE if a tuple of integers is no way of it."""
+    between = fare_along(machine, log, way)
+    if between == NONE:
+        return NONE
+    first = machine[1][way[0]]
+    last = machine[3][way[-1]]
+    return NONE if NONE in (first, last) else first + between + last
+
+
 def fare_by(machine, log, way):
     """Return the fare of a way of a log."""
     check_log(machine[0], log)
-    between = fare_along(machine, log, way)
-    if between == NONE:
-        raise NotAllowed("no moves lead along the log by these states")
-    first = machine[1][way[0]]
-    last = machine[3][way[-1]]
-    if first == NONE or last == NONE:
-        raise NotAllowed("a way begins with a first fare and ends with a last one")
-    return first + between + last
+    fare = way_fare(machine, log, way)
+    if fare == NONE:
+        raise NotAllowed("these states are no way of the log")
+    return fare
 
 
 def check_same_letters(first, second):

@@ -23,6 +23,15 @@ def useful(machine):
     return [state for state in range(len(machine[1])) if state in met and state in ending]
 
 
+def state_steps(machine, good):
+    """Return a dict with the steps from each good state to good ones: pairs of a letter and a state."""
+    steps = {}
+    for state in good:
+        rows = list(zip(machine[0], machine[2][state]))
+        steps[state] = [(letter, after) for letter, row in rows for after, _ in row if after in good]
+    return steps
+
+
 def pair_steps(machine, good, pair):
     """Return the steps from a pair of states to pairs of good ones.
 
@@ -53,9 +62,10 @@ def steps_together(machine):
 
 
 def routes_from(starts, steps):
-    """Return a dict with the shortest route to each pair that is reached from the starts.
+    """Return a dict with the shortest route to each place that is reached from the starts, the nearest first.
 
-    A route is the pair with which it starts, and the tuple of its steps.
+    Places are states, or tuples of them. A route is the place with which it starts, and the tuple of
+    its steps; a step has the letter and the place to which it leads ahead of all else.
     """
     routes = {}
     for start in starts:
@@ -63,9 +73,9 @@ def routes_from(starts, steps):
     queue = list(starts)
     at = 0
     while at < len(queue):
-        pair = queue[at]
-        start, taken = routes[pair]
-        for step in steps[pair]:
+        place = queue[at]
+        start, taken = routes[place]
+        for step in steps[place]:
             if step[1] not in routes:
                 routes[step[1]] = (start, taken + (step,))
                 queue.append(step[1])

@@ -27,6 +27,23 @@ HALF_USEFUL = (
     (0, NONE, 7),
 )
 
+# The machine, and the walker, of the examples about regret.
+FORK = (
+    ("a", "b"),
+    (0, NONE, NONE, NONE),
+    (
+        (((1, 0), (2, 0)), ((0, 1),)),
+        (((3, 0),), ((3, 3),)),
+        (((3, 2),), ((3, 0),)),
+        (((3, 0),), ((3, 0),)),
+    ),
+    (0, 0, 0, 0),
+)
+FORK_WALKER = ((0, (1, 0)), (2, (2, 2)), (3, (2, 2)))
+
+# A log of so many letters has as many ways, one for each place at which state 0 is left.
+ROWS = (("a",), (0, NONE), ((((0, 0), (1, 0)),), (((1, 0),),)), (NONE, 0))
+
 
 def random_machine(source, states, letters, density, most=9):
     """Return a machine of so many states and letters; density is the part of the fares that are there."""
@@ -56,6 +73,15 @@ def random_machines(seed, many, states=3, letters=2):
     return machines
 
 
+def levelled_machine(machine, heights):
+    """Return a machine whose moves cost 5, more by the height ahead and less by the height behind."""
+    moves = []
+    for state, rows in enumerate(machine[2]):
+        costs = [[(after, 5 + heights[state] - heights[after]) for after, _ in row] for row in rows]
+        moves.append(tuple([tuple(row) for row in costs]))
+    return machine[0], machine[1], tuple(moves), machine[3]
+
+
 def logs_up_to(letters, longest):
     """Return the list of all logs of at most so many letters, in the order of logs."""
     return [log for length in range(longest + 1) for log in itertools.product(letters, repeat=length)]
@@ -75,6 +101,14 @@ def rows_along(machine, log, states=None):
         fares = [step_fare(machine, row[at], letter, row[at + 1]) for at, letter in enumerate(log)]
         if NONE not in fares:
             found.append((row, sum(fares)))
+    return found
+
+
+def reached(machine, states, log):
+    """Return the set of the states to which a log leads from some states."""
+    found = set(states)
+    for letter in log:
+        found = set([after for state in found for after, _ in machine[2][state][machine[0].index(letter)]])
     return found
 
 
@@ -109,6 +143,30 @@ def ahead(machine, log):
         if machine[3][row[-1]] != NONE:
             sums[row[0]].append(total + machine[3][row[-1]])
     return tuple([least(found) for found in sums])
+
+
+def known_fare(machine, log):
+    """Return the fare of a log, from all its ways."""
+    return least([fare for fare, _ in ways_of(machine, log)])
+
+
+def edited_log(log, edit):
+    """Return the log behind an edit."""
+    letters = list(log)
+    if edit[0] == "put":
+        letters.insert(edit[1], edit[2])
+    elif edit[0] == "cut":
+        del letters[edit[1]]
+    else:
+        letters[edit[1]] = edit[2]
+    return tuple(letters)
+
+
+def possible_edits(machine, log):
+    """Return the list of all possible edits of a log."""
+    edits = [("cut", at) for at in range(len(log))]
+    edits += [("change", at, letter) for at in range(len(log)) for letter in machine[0]]
+    return edits + [("put", at, letter) for at in range(len(log) + 1) for letter in machine[0]]
 
 
 def useful_states(machine):

@@ -4,8 +4,8 @@ import importlib
 import inspect
 import unittest
 
-from faremachines import counts, machines, rounds, texts, words
-from tests.samples import COUNTER, PLAIN, SINGLE, SWAPPING
+from faremachines import charts, cheapest, counts, edited, machines, rounds, slices, texts, walkers, waygrowth, words
+from tests.samples import COUNTER, FORK, FORK_WALKER, NONE, PLAIN, ROWS, SINGLE, STUCK, SWAPPING
 
 NAMES = {
     "errors": "FareError NotAllowed TooLarge Missing BadPaper BadForm Broken",
@@ -15,11 +15,31 @@ NAMES = {
     "texts": "MAX_TEXT machine_text read_machine",
     "rounds": "useful rounds is_alike is_drift",
     "counts": "MAX_WAYS_ASKED MAX_TABLE at_most is_table",
+    "waygrowth": "growth_of_ways growth_paper level_paper is_growth_paper is_level_paper",
+    "charts": "chart_of product fare_by_chart",
+    "edited": "Edited",
+    "cheapest": "MAX_WAYS cheapest_ways paper_of judge",
+    "slices": "cheapest_slice best_edit fares_together",
+    "walkers": "MAX_SPOTS alive_states check_walker walker_way walker_fare regret upper_paper lower_paper judge_upper"
+               " judge_lower",
 }
+METHODS = {edited.Edited: "log fare length edit slice_fare fares_behind fares_from fare_with copy"}
+CONSTANTS = (
+    (words.MAX_WORD, 8), (words.MAX_LETTERS, 4), (words.MAX_LOG, 400),
+    (words.RESERVED, ("letters", "state", "move", "none")),
+    (machines.MAX_STATES, 8), (machines.MAX_FARE, 99), (machines.NONE, -1), (texts.MAX_TEXT, 8000),
+    (counts.MAX_WAYS_ASKED, 5), (counts.MAX_TABLE, 1000), (cheapest.MAX_WAYS, 20), (walkers.MAX_SPOTS, 16),
+)
 
 DRIFT = ((), ("a",), ((0,), (1,), (0, 0), (1, 1)))
 ALIKE = ((0, 0, 0, 0), (0, 1, 0, 7), (1, 0, 0, 7), (1, 1, 0, 0))
 TEXT = "letters a b\nstate 0 none\nstate 2 4\nmove 0 a 0 3\nmove 0 b 1 1\nmove 1 a 1 1\nmove 1 b 0 0\nmove 1 b 1 5\n"
+
+LOG = ("a", "b", "a")
+DOUBLING = ("doubling", 1, ("b", "b"), (1, 0, 1), (1, 1, 1))
+WAYS = [(9, (0, 0, 1, 1)), (13, (1, 1, 1, 1))]
+BOUNDS = ((9, 11), (6, 10), (NONE, 5), (NONE, 4))
+UPPER = ((0, 0, 0), (1, 1, 0), (1, 2, 0), (2, 3, 2))
 
 # Calls, and what they return.
 CALLS = (
@@ -46,6 +66,29 @@ CALLS = (
     (rounds.is_drift, (COUNTER, DRIFT), True),
     (counts.at_most, (SINGLE, 1), (True, ((1,),))),
     (counts.is_table, (SINGLE, 1, ((0,), (1,))), True),
+    (waygrowth.growth_of_ways, (PLAIN,), ("doubling",)),
+    (waygrowth.growth_paper, (ROWS,), ("power", ((0, 1, ("a",), ()),))),
+    (waygrowth.level_paper, (ROWS,), (1, 0)),
+    (waygrowth.is_growth_paper, (PLAIN, DOUBLING), True),
+    (waygrowth.is_level_paper, (ROWS, (1, 0)), True),
+    (charts.chart_of, (PLAIN, LOG), ((NONE, 5), (4, 7))),
+    (charts.product, (((3, -1), (-1, 1)), ((-1, 2), (3, 6))), ((NONE, 5), (4, 7))),
+    (charts.fare_by_chart, (PLAIN, ((NONE, 5), (4, 7))), 9),
+    (cheapest.cheapest_ways, (PLAIN, LOG, 3), WAYS),
+    (cheapest.paper_of, (PLAIN, LOG), BOUNDS),
+    (cheapest.judge, (PLAIN, LOG, 3, WAYS, BOUNDS), True),
+    (slices.cheapest_slice, (PLAIN, LOG, 1), (5, (1, 2))),
+    (slices.best_edit, (PLAIN, LOG), (6, ("cut", 0))),
+    (slices.fares_together, ([SINGLE, STUCK], ("a",)), [1, NONE]),
+    (walkers.alive_states, (FORK,), [0, 1, 2, 3]),
+    (walkers.check_walker, (FORK, FORK_WALKER), None),
+    (walkers.walker_way, (FORK, FORK_WALKER, ("b", "a", "a")), (0, 0, 2, 3)),
+    (walkers.walker_fare, (FORK, FORK_WALKER, ("b", "a", "a")), 3),
+    (walkers.regret, (FORK, FORK_WALKER), 2),
+    (walkers.upper_paper, (FORK, FORK_WALKER, 2), UPPER),
+    (walkers.lower_paper, (FORK, FORK_WALKER, 1), ("log", ("a", "a"))),
+    (walkers.judge_upper, (FORK, FORK_WALKER, 2, UPPER), True),
+    (walkers.judge_lower, (FORK, FORK_WALKER, 1, ("log", ("a", "a"))), True),
 )
 
 
@@ -72,4 +115,16 @@ class InterfaceTest(unittest.TestCase):
     def test_each_function_of_the_interface_is_called(self):
         called = {function.__name__ for function, _, _ in CALLS}
         listed = {word for name, words_of in NAMES.items() if name != "errors" for word in words_of.split()}
-        self.assertEqual(called, {word for word in listed if not word.isupper()})
+        classes = {found.__name__ for found in METHODS}
+        self.assertEqual(called | classes, {word for word in listed if not word.isupper()})
+
+    def test_methods_stand_in_their_classes(self):
+        for found, listed in METHODS.items():
+            for word in listed.split():
+                self.assertTrue(inspect.isfunction(vars(found)[word]), word)
+
+    def test_constants(self):
+        for found, known in CONSTANTS:
+            self.assertEqual((type(found), found), (type(known), known))
+        listed = [word for words_of in NAMES.values() for word in words_of.split() if word.isupper()]
+        self.assertEqual(len(listed), len(CONSTANTS))

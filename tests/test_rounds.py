@@ -6,7 +6,8 @@ import unittest
 from faremachines.machines import turned
 from faremachines.rounds import is_alike, is_drift, rounds, useful
 from tests.samples import COUNTER, HALF_USEFUL, NONE, PLAIN, SINGLE, STUCK, SWAPPING
-from tests.samples import closed_useful, logs_up_to, random_machines, rows_along, step_fare, useful_states
+from tests.samples import closed_useful, levelled_machine, logs_up_to, random_machines, rows_along, step_fare
+from tests.samples import useful_states
 
 
 def pairs_together(machine):
@@ -39,15 +40,6 @@ def free_machine(machine):
     """Return the machine whose moves all cost the same, so that no rounds drift apart."""
     rows = [tuple([tuple([(after, 4) for after, _ in row]) for row in rows]) for rows in machine[2]]
     return machine[0], machine[1], tuple(rows), machine[3]
-
-
-def levelled_machine(machine, heights):
-    """Return a machine whose moves cost 5, more by the height ahead and less by the height behind."""
-    moves = []
-    for state, rows in enumerate(machine[2]):
-        costs = [[(after, 5 + heights[state] - heights[after]) for after, _ in row] for row in rows]
-        moves.append(tuple([tuple(row) for row in costs]))
-    return machine[0], machine[1], tuple(moves), machine[3]
 
 
 class UsefulTest(unittest.TestCase):
