@@ -140,7 +140,8 @@ def dearest_walks(gaps, steps):
                 known = longer.get(step[1], walks.get(step[1]))
                 if known is None or total + step[2] > known[0]:
                     longer[step[1]] = (total + step[2], start, taken + (step,))
-        walks.update(longer)
+        for pair in longer:
+            walks[pair] = longer[pair]
         fresh = list(longer)
     return walks, fresh
 

@@ -293,6 +293,13 @@ class JudgeTest(unittest.TestCase):
         self.assertIs(judge(STUCK, ("a",), 1, [], ((NONE, NONE), (NONE, 0))), False)
         self.assertIs(judge(STUCK, ("a",), 1, [], ((NONE, 1), (NONE, 0))), False)
 
+    def test_rows_of_states_that_are_no_ways(self):
+        for row in ((), (0,), (0, 0), (0, 0, 0, 0), (0, 0, 1, 5), (-1, -1, -1, -1), (0, 0, 1, 1, 1)):
+            for fare in (NONE, 0, 9):
+                self.assertIs(judge(PLAIN, LOG, 3, [(fare, row)], paper_of(PLAIN, LOG)), False)
+                self.assertIs(judge(PLAIN, LOG, 1, [(fare, row)], paper_of(PLAIN, LOG)), False)
+        self.assertIs(judge(STUCK, ("a",), 1, [(NONE, (0, 0))], paper_of(STUCK, ("a",))), False)
+
     def test_the_paper_has_the_fares_from_each_place(self):
         for machine in random_machines(59, 20, states=3):
             log = machine[0] * 2

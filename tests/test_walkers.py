@@ -431,6 +431,9 @@ class UpperPaperTest(unittest.TestCase):
             self.assertIs(self.judge(*self.paper[:at + 1], *self.paper[at:]), False)
             self.assertIs(self.judge(*self.paper[:at], (spot, state, -5), *self.paper[at:]), False)
         self.assertIs(self.judge(*reversed(self.paper)), False)
+        # Spot -1 is none, although it would be the last one as an index.
+        self.assertIs(self.judge((-1, 3, -9), *self.paper), False)
+        self.assertIs(self.judge(*self.paper, (3, 3, -9)), False)
         self.assertIs(self.judge(), False)
 
     def test_greater_numbers_and_more_pairs(self):
@@ -490,6 +493,7 @@ class LowerPaperTest(unittest.TestCase):
             self.assertIs(judge_lower(ROUND, FREE, r, ("grows", (), ("a",), ())), False)
             self.assertIs(judge_lower(ROUND, DEAR, r, ("grows", (), (), ())), False)
             self.assertIs(judge_lower(ROUND, DEAR, r, ("log", (), ("a",), ())), False)
+            self.assertIs(judge_lower(ROUND, DEAR, r, ("log", ("a", "a"), ("a",), ())), False)
             self.assertIs(judge_lower(ROUND, DEAR, r, ("", (), ("a",), ())), False)
         for at in range(3):
             logs = [("a",), ("a",), ("a",)]
