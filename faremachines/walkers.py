@@ -123,37 +123,43 @@ def lost_log(machine, walker, alive, routes):
     return None
 
 
+def is_met(walk, pair):
+    """Tell whether a walk leads by a pair."""
+    return walk[1] == pair or any([step[1] == pair for step in walk[2]])
+
+
 def dearest_walks(gaps, steps):
-    """Return a dict with the walks to all pairs, and a list of the pairs to which longer ones cost yet more.
+    """Return a dict with the walks to all pairs, and a pair to which longer ones cost yet more, or None.
 
     A walk is the greatest sum that the walker pays more, the first pair, and the tuple of the steps.
-    None has more steps than there are pairs; if those to a pair that have as many cost more than all
-    that have fewer, a part of them leads back to a pair for more.
+    If there is such a pair, its walk leads by it before, for less, and all its other pairs are different.
     """
     walks = {pair: (gaps[pair], pair, ()) for pair in gaps}
     fresh = list(walks)
-    for _ in range(len(steps)):
+    while fresh:
         longer = {}
         for pair in fresh:
-            total, start, taken = walks[pair]
+            walk = walks[pair]
             for step in steps[pair]:
                 known = longer.get(step[1], walks.get(step[1]))
-                if known is None or total + step[2] > known[0]:
-                    longer[step[1]] = (total + step[2], start, taken + (step,))
+                if known is None or walk[0] + step[2] > known[0]:
+                    longer[step[1]] = (walk[0] + step[2], walk[1], walk[2] + (step,))
+                    # What is known of a pair is at least what was paid when the walk led by it.
+                    if is_met(walk, step[1]):
+                        return longer, step[1]
         for pair in longer:
             walks[pair] = longer[pair]
         fresh = list(longer)
-    return walks, fresh
+    return walks, None
 
 
 def growing_paper(machine, walk):
-    """Return the lower paper of a walk, a part of which leads back to a pair for more."""
+    """Return the lower paper of a walk that leads back to its last pair for more."""
     _, start, taken = walk
     pairs = [start] + [step[1] for step in taken]
-    end = min([at for at, pair in enumerate(pairs) if pair in pairs[:at]])
-    begin = pairs.index(pairs[end])
-    last = ending_log(machine, pairs[end][1])
-    return "grows", log_along(taken[:begin]), log_along(taken[begin:end]), last
+    begin = pairs.index(pairs[-1])
+    last = ending_log(machine, pairs[-1][1])
+    return "grows", log_along(taken[:begin]), log_along(taken[begin:]), last
 
 
 def compared(machine, walker):
@@ -165,8 +171,8 @@ def compared(machine, walker):
     lost = lost_log(machine, walker, alive, routes_from(sorted(gaps), steps))
     if lost is not None:
         return ("log", lost), {}
-    walks, fresh = dearest_walks(gaps, steps)
-    return (growing_paper(machine, walks[fresh[0]]) if fresh else None), walks
+    walks, turning = dearest_walks(gaps, steps)
+    return (None if turning is None else growing_paper(machine, walks[turning])), walks
 
 
 def regrets_of(machine, walker, walks):

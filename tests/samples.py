@@ -184,3 +184,94 @@ def closed_useful(machine):
         leads = [[leads[s][t] or (leads[s][k] and leads[k][t]) for t in size] for s in size]
     met = [t for t in size if any(machine[1][s] != NONE and leads[s][t] for s in size)]
     return [s for s in met if any(machine[3][t] != NONE and leads[s][t] for t in size)]
+
+
+def variants(shape, value):
+    """Return a list of values of a kind, each with one thing changed: another one, left out, twice, or exchanged.
+
+    A shape is `int`, `str` (a letter, or the empty text), a list of one shape for a tuple of any
+    length, or a tuple of shapes for a tuple of just these parts.
+    """
+    if shape is int:
+        return [value - 1, value + 1]
+    if shape is str:
+        return [text for text in ("a", "b", "e", "") if text != value]
+    if isinstance(shape, tuple):
+        kinds = list(zip(shape, value))
+        return [value[:k] + (other,) + value[k + 1:] for k, kind in enumerate(kinds) for other in variants(*kind)]
+    found = []
+    for k, part in enumerate(value):
+        found += [value[:k] + value[k + 1:], value[:k] + (part, part) + value[k + 1:]]
+        found += [value[:k] + (other,) + value[k + 1:] for other in variants(shape[0], part)]
+        found += [value[:k] + (value[k + 1], part) + value[k + 2:]] if k + 1 < len(value) else []
+    return found
+
+
+def answer_of(function, *arguments):
+    """Return what a call returns, or the name of the error that it raises."""
+    try:
+        return function(*arguments)
+    except ValueError as error:
+        return type(error).__name__
+
+
+def random_single(source, states, letters, density, most=9):
+    """Return a single machine of so many states and letters; density is the part of the fares that are there."""
+
+    def fare():
+        return source.randrange(most + 1) if source.random() < density else NONE
+
+    def move():
+        cost = fare()
+        return (NONE, NONE) if cost == NONE else (source.randrange(states), cost)
+
+    moves = tuple([tuple([move() for _ in range(letters)]) for _ in range(states)])
+    return LETTERS[:letters], source.randrange(most + 1), moves, tuple([fare() for _ in range(states)])
+
+
+def random_singles(seed, many, states=3, letters=2):
+    """Return a list of single machines of up to so many states and letters, some of them without states."""
+    source = random.Random(seed)
+    singles = []
+    for _ in range(many):
+        size = source.randrange(1, states + 1)
+        width = source.randrange(1, letters + 1)
+        density = source.choice([0.3, 0.6, 0.8, 1])
+        single = random_single(source, size, width, density, source.choice([1, 9]))
+        singles.append(single if source.random() < 0.95 else (single[0], NONE, (), ()))
+    return singles
+
+
+def state_behind(single, log, state=0):
+    """Return the state to which a log leads in a single machine, and the sum of the moves; None if to none."""
+    total = 0
+    for letter in log:
+        after, fare = single[2][state][single[0].index(letter)]
+        if after == NONE:
+            return None
+        state, total = after, total + fare
+    return state, total
+
+
+def cost_of(single, log):
+    """Return the fare of a log by a single machine, or NONE."""
+    found = state_behind(single, log) if single[2] else None
+    if found is None or single[3][found[0]] == NONE:
+        return NONE
+    return single[1] + found[1] + single[3][found[0]]
+
+
+def useful_in(single):
+    """Return the set of the useful states of a single machine."""
+    size = range(len(single[2]))
+    leads = [[s == t or t in dict(single[2][s]) for t in size] for s in size]
+    for k in size:
+        leads = [[leads[s][t] or (leads[s][k] and leads[k][t]) for t in size] for s in size]
+    return set([s for s in size if leads[0][s] and any(leads[s][t] and single[3][t] != NONE for t in size)])
+
+
+def renumbered(single, order):
+    """Return a single machine whose state k has the number order[k]; state 0 stays."""
+    places = [order.index(k) for k in range(len(order))]
+    rows = [[(order[after] if after != NONE else NONE, fare) for after, fare in single[2][k]] for k in places]
+    return single[0], single[1], tuple([tuple(row) for row in rows]), tuple([single[3][k] for k in places])

@@ -4,7 +4,8 @@ import importlib
 import inspect
 import unittest
 
-from faremachines import charts, cheapest, counts, edited, machines, rounds, slices, texts, walkers, waygrowth, words
+from faremachines import bystate, charts, cheapest, counts, dearer, edited, forced, machines, made, regretgame, rounds
+from faremachines import singles, slices, texts, walkers, waygrowth, words
 from tests.samples import COUNTER, FORK, FORK_WALKER, NONE, PLAIN, ROWS, SINGLE, STUCK, SWAPPING
 
 NAMES = {
@@ -22,6 +23,13 @@ NAMES = {
     "slices": "cheapest_slice best_edit fares_together",
     "walkers": "MAX_SPOTS alive_states check_walker walker_way walker_fare regret upper_paper lower_paper judge_upper"
                " judge_lower",
+    "bystate": "MAX_CHOICES state_walker best_by_state",
+    "regretgame": "MAX_CAP MAX_REGRET MAX_POSITIONS first_positions next_position walker_paper judge_walker"
+                  " least_regret walker_of",
+    "forced": "MAX_TURNS forced forced_paper judge_forced",
+    "singles": "MAX_SINGLE MAX_COST check_single single_fare least_single",
+    "made": "made as_machine",
+    "dearer": "MAX_PAIRS MAX_TIMES same_fares is_same never_dearer is_never is_dearer",
 }
 METHODS = {edited.Edited: "log fare length edit slice_fare fares_behind fares_from fare_with copy"}
 CONSTANTS = (
@@ -29,6 +37,9 @@ CONSTANTS = (
     (words.RESERVED, ("letters", "state", "move", "none")),
     (machines.MAX_STATES, 8), (machines.MAX_FARE, 99), (machines.NONE, -1), (texts.MAX_TEXT, 8000),
     (counts.MAX_WAYS_ASKED, 5), (counts.MAX_TABLE, 1000), (cheapest.MAX_WAYS, 20), (walkers.MAX_SPOTS, 16),
+    (bystate.MAX_CHOICES, 3000), (regretgame.MAX_CAP, 60), (regretgame.MAX_REGRET, 60),
+    (regretgame.MAX_POSITIONS, 3000), (forced.MAX_TURNS, 8), (singles.MAX_SINGLE, 60), (singles.MAX_COST, 1000000),
+    (dearer.MAX_PAIRS, 400), (dearer.MAX_TIMES, 10 ** 10),
 )
 
 DRIFT = ((), ("a",), ((0,), (1,), (0, 0), (1, 1)))
@@ -40,6 +51,15 @@ DOUBLING = ("doubling", 1, ("b", "b"), (1, 0, 1), (1, 1, 1))
 WAYS = [(9, (0, 0, 1, 1)), (13, (1, 1, 1, 1))]
 BOUNDS = ((9, 11), (6, 10), (NONE, 5), (NONE, 4))
 UPPER = ((0, 0, 0), (1, 1, 0), (1, 2, 0), (2, 3, 2))
+CHOICE = ((2, 0), (3, 3), (3, 3), (3, 3))
+ANSWERS = (((0, ((0, 0),)), (2, 0)), ((2, ((1, 0), (2, 0))), (3, 3)), ((3, ((3, 2),)), (3, 3)))
+OTHER = (
+    (0, ((0, 0),), 2, "a"), (1, ((1, 0), (2, 0)), 1, "b"), (2, ((1, 0), (2, 0)), 1, "a"), (3, ((3, 2),), 0, ""),
+    (3, ((3, 3),), 0, ""),
+)
+LONE = (("a",), 1, (((1, 0),), ((2, 5),), ((1, 5),)), (-1, 2, 2))
+LEAST = (("a",), 3, (((1, 0),), ((1, 5),)), (-1, 0))
+ONE, TWO = (("a",), 5, (((0, 1),),), (0,)), (("a",), 0, (((0, 2),),), (0,))
 
 # Calls, and what they return.
 CALLS = (
@@ -89,6 +109,27 @@ CALLS = (
     (walkers.lower_paper, (FORK, FORK_WALKER, 1), ("log", ("a", "a"))),
     (walkers.judge_upper, (FORK, FORK_WALKER, 2, UPPER), True),
     (walkers.judge_lower, (FORK, FORK_WALKER, 1, ("log", ("a", "a"))), True),
+    (bystate.state_walker, (FORK, 0, CHOICE), FORK_WALKER),
+    (bystate.best_by_state, (FORK,), (2, 0, CHOICE)),
+    (regretgame.first_positions, (FORK,), [(0, ((0, 0),))]),
+    (regretgame.next_position, (FORK, (0, ((0, 0),)), "a", 2), (2, ((1, 0), (2, 0)))),
+    (regretgame.walker_paper, (FORK, 2, 5), ANSWERS),
+    (regretgame.judge_walker, (FORK, 2, ANSWERS), True),
+    (regretgame.least_regret, (FORK, 5), 2),
+    (regretgame.walker_of, (FORK, 2, ANSWERS), FORK_WALKER),
+    (forced.forced, (FORK, 2), 2),
+    (forced.forced_paper, (FORK, 1, 2), OTHER),
+    (forced.judge_forced, (FORK, 1, OTHER), True),
+    (singles.check_single, (LONE,), None),
+    (singles.single_fare, (LONE, ("a", "a")), 8),
+    (singles.least_single, (LONE,), LEAST),
+    (made.made, (SWAPPING,), (("a",), 0, (((0, 2),),), (0,))),
+    (made.as_machine, (LEAST,), (("a",), (3, NONE), ((((1, 0),),), (((1, 5),),)), (NONE, 0))),
+    (dearer.same_fares, (LONE, LEAST), ("same", ((0, 0, -2), (1, 1, -2), (2, 1, -2)))),
+    (dearer.is_same, (LONE, LEAST, ((0, 0, -2), (1, 1, -2), (2, 1, -2))), True),
+    (dearer.never_dearer, (TWO, ONE), ("dearer", ((), ("a",), 6, ()))),
+    (dearer.is_never, (ONE, ONE, ((0, 0, 0),)), True),
+    (dearer.is_dearer, (TWO, ONE, ((), ("a",), 6, ())), True),
 )
 
 
