@@ -40,8 +40,6 @@ def offsets_met(machine):
 
 def made(machine):
     """Return the least single machine that costs the same as a machine for all logs."""
-    if not useful(machine):
-        return machine[0], NONE, (), ()
     first = offsets_of(fares_of_good(machine[1], useful(machine)))[0]
     found, moves = offsets_met(machine)
     lasts = tuple([least_sum(offsets, machine[3]) for offsets in found])

@@ -152,7 +152,8 @@ def winning(found, turns):
         kept[position] = False
         for before, at in ahead[position]:
             left[(before, at)] -= 1
-            if left[(before, at)] == 0 and turns[before][at][0]:
+            # A position with an empty row is never lost, so that the row behind this letter is not empty.
+            if left[(before, at)] == 0:
                 lost.append(before)
     return {position: True for position in found if kept[position]}
 

@@ -4,8 +4,9 @@ import importlib
 import inspect
 import unittest
 
-from faremachines import bystate, charts, cheapest, counts, dearer, edited, forced, machines, made, regretgame, rounds
-from faremachines import singles, slices, texts, walkers, waygrowth, words
+from faremachines import bystate, cells, charts, cheapest, comparing, counts, dearer, edited, forced, greatest, growing
+from faremachines import limits, machines, made, regretgame, rounds, singles, slices, texts, unions, walkers, waygrowth
+from faremachines import words
 from tests.samples import COUNTER, FORK, FORK_WALKER, NONE, PLAIN, ROWS, SINGLE, STUCK, SWAPPING
 
 NAMES = {
@@ -30,6 +31,12 @@ NAMES = {
     "singles": "MAX_SINGLE MAX_COST check_single single_fare least_single",
     "made": "made as_machine",
     "dearer": "MAX_PAIRS MAX_TIMES same_fares is_same never_dearer is_never is_dearer",
+    "unions": "MAX_UNION MAX_OWN check_union union_fare cheapest_members",
+    "cells": "MAX_BOX first_place place_behind judge_cells",
+    "comparing": "MAX_PART MAX_PLACES MAX_LETTERS_TRIED made_cells dearer_log never_dearer_union least_part",
+    "limits": "MAX_TABLES letter_table combined repeated value_of is_limited closed_paper judge_closed",
+    "growing": "MAX_NESTED check_expression table_of log_of growing_paper judge_growing",
+    "greatest": "MAX_ROWS first_log row_paper judge_rows greatest_fare",
 }
 METHODS = {edited.Edited: "log fare length edit slice_fare fares_behind fares_from fare_with copy"}
 CONSTANTS = (
@@ -39,7 +46,9 @@ CONSTANTS = (
     (counts.MAX_WAYS_ASKED, 5), (counts.MAX_TABLE, 1000), (cheapest.MAX_WAYS, 20), (walkers.MAX_SPOTS, 16),
     (bystate.MAX_CHOICES, 3000), (regretgame.MAX_CAP, 60), (regretgame.MAX_REGRET, 60),
     (regretgame.MAX_POSITIONS, 3000), (forced.MAX_TURNS, 8), (singles.MAX_SINGLE, 60), (singles.MAX_COST, 1000000),
-    (dearer.MAX_PAIRS, 400), (dearer.MAX_TIMES, 10 ** 10),
+    (dearer.MAX_PAIRS, 400), (dearer.MAX_TIMES, 10 ** 10), (unions.MAX_UNION, 3), (unions.MAX_OWN, 6),
+    (cells.MAX_BOX, 500), (comparing.MAX_PART, 2), (comparing.MAX_PLACES, 400), (comparing.MAX_LETTERS_TRIED, 7),
+    (limits.MAX_TABLES, 300), (growing.MAX_NESTED, 30), (greatest.MAX_ROWS, 2000),
 )
 
 DRIFT = ((), ("a",), ((0,), (1,), (0, 0), (1, 1)))
@@ -60,6 +69,11 @@ OTHER = (
 LONE = (("a",), 1, (((1, 0),), ((2, 5),), ((1, 5),)), (-1, 2, 2))
 LEAST = (("a",), 3, (((1, 0),), ((1, 5),)), (-1, 0))
 ONE, TWO = (("a",), 5, (((0, 1),),), (0,)), (("a",), 0, (((0, 2),),), (0,))
+UNION = ((("a", "b"), 0, (((0, 1), (0, 0)),), (0,)), (("a", "b"), 0, (((0, 0), (0, 1)),), (0,)))
+HALF = (("a", "b"), 0, (((1, 0), (1, 0)), ((0, 1), (0, 1))), (0, 0))
+CELLS = (((0, (0, 0)), (((1, 1), 0), ((2, 2), 0)), ()), ((1, (0, 0)), (((1, 1), 1), ((2, 2), 2)), ()))
+ALONE = (("a",), (0,), ((((0, 0),),),), (5,))
+TURNS = ("turns", ("row", ("b", "a")))
 
 # Calls, and what they return.
 CALLS = (
@@ -130,6 +144,32 @@ CALLS = (
     (dearer.never_dearer, (TWO, ONE), ("dearer", ((), ("a",), 6, ()))),
     (dearer.is_never, (ONE, ONE, ((0, 0, 0),)), True),
     (dearer.is_dearer, (TWO, ONE, ((), ("a",), 6, ())), True),
+    (unions.check_union, (UNION,), None),
+    (unions.union_fare, (UNION, ("a", "a", "b")), 1),
+    (unions.cheapest_members, (UNION, ("a", "b")), (0, 1)),
+    (cells.first_place, (UNION, HALF), ((0, (0, 0)), (0, 0))),
+    (cells.place_behind, (UNION, HALF, (1, (0, 0)), "a"), ((0, (0, 0)), (0, -1))),
+    (cells.judge_cells, (UNION, HALF, CELLS), True),
+    (comparing.made_cells, (UNION, HALF), CELLS),
+    (comparing.dearer_log, ((HALF,), UNION, 7), ("a", "a")),
+    (comparing.never_dearer_union, (UNION, (HALF,)), True),
+    (comparing.least_part, ((UNION[0], HALF, UNION[1]),), (0, 2)),
+    (limits.letter_table, (COUNTER, "a"), ((1, 3), (3, 0))),
+    (limits.combined, (((1, 3), (3, 0)), ((0, 3), (3, 1))), ((1, 3), (3, 1))),
+    (limits.repeated, (((1, 3), (3, 0)),), ((2, 3), (3, 0))),
+    (limits.value_of, (COUNTER, ((2, 3), (3, 2))), 2),
+    (limits.is_limited, (COUNTER,), False),
+    (limits.closed_paper, (ALONE,), (((0,),),)),
+    (limits.judge_closed, (ALONE, (((0,),),)), True),
+    (growing.check_expression, (COUNTER, TURNS), None),
+    (growing.table_of, (COUNTER, TURNS), ((2, 3), (3, 2))),
+    (growing.log_of, (TURNS, 2), ("b", "a", "b", "a")),
+    (growing.growing_paper, (COUNTER,), TURNS),
+    (growing.judge_growing, (COUNTER, TURNS), True),
+    (greatest.first_log, (COUNTER, 2), ("a", "a", "b", "b")),
+    (greatest.row_paper, (ALONE, 6), ((0,),)),
+    (greatest.judge_rows, (ALONE, 6, ((0,),)), True),
+    (greatest.greatest_fare, (ALONE,), 5),
 )
 
 

@@ -72,6 +72,16 @@ class MadeTest(unittest.TestCase):
             with self.assertRaises(TooLarge):
                 made(falling(offset))
 
+    def test_logs_that_reach_nothing_make_no_offsets(self):
+        for offset, large in ((59, False), (60, True)):
+            _, firsts, moves, lasts = falling(offset)
+            # By b nothing is reached, by c only a state that is not useful.
+            moves = tuple([rows + ((), ((2, 0),)) for rows in moves]) + (((), (), ((2, 1),)),)
+            machine = (("a", "b", "c"), firsts + (NONE,), moves, lasts + (NONE,))
+            answer = answer_of(made, machine)
+            self.assertEqual(answer == "TooLarge", large)
+            self.assertTrue(large or len(answer[2]) == 60)
+
     def test_states_that_are_not_useful_make_no_offsets(self):
         # State 1 goes round for more, but leads to no end; state 2 is not met.
         machine = (("a",), (0, 0, NONE), ((((0, 1),),), (((1, 2),),), (((0, 0), (2, 9)),)), (0, NONE, 0))

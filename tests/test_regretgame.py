@@ -2,7 +2,9 @@
 
 import random
 import unittest
+from unittest import mock
 
+from faremachines import regretgame
 from faremachines.errors import BadPaper, Missing, NotAllowed, TooLarge
 from faremachines.regretgame import first_positions, judge_walker, least_regret, next_position, walker_of, walker_paper
 from faremachines.walkers import check_walker, judge_upper, regret, upper_paper
@@ -193,6 +195,17 @@ class CapTest(unittest.TestCase):
         # None of the lesser regrets is enough, and for a greater one too many positions come up.
         with self.assertRaises(TooLarge):
             least_regret(WIDE, 60)
+
+    def test_more_positions_than_there_may_be(self):
+        told = {True: 0, False: 0}
+        for machine in random_machines(219, 60, 3, 2):
+            for r, cap in ((0, 0), (5, 2), (9, 9)):
+                for most in (1, 3, 9):
+                    with mock.patch.object(regretgame, "MAX_POSITIONS", most):
+                        large = games.outcome(machine, r, cap, most) == "TooLarge"
+                        self.assertEqual(answer_of(walker_paper, machine, r, cap) == "TooLarge", large, (machine, r, cap))
+                        told[large] += 1
+        self.assertGreater(min(told.values()), 50, told)
 
     def test_no_first_fare(self):
         machine = (("a",), (NONE, NONE), ((((0, 0),),), ((),)), (0, 0))

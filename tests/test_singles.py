@@ -55,7 +55,7 @@ class CheckTest(unittest.TestCase):
     def test_letters_and_rows(self):
         for letters in ((), ("a", "a"), ("A",), ("none",), ("a", "b", "c", "d", "e"), ("",)):
             self.assertFalse(self.allowed((letters, NONE, (), ())))
-        for row in ((), ((0, 0),), ((0, 0),) * 3):
+        for row in ((), ((0, 0),), ((0, 0),) * 3, ((0, 0), (0, -2)), ((1, 0), (0, 0)), ((NONE, 0), (0, 0))):
             self.assertFalse(self.allowed((("a", "b"), 0, (row,), (0,))))
         self.assertTrue(self.allowed((("a", "b"), 0, (((0, 0),) * 2,), (0,))))
 
