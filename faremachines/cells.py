@@ -149,14 +149,14 @@ def box_of(members, needs, tops):
     """Return the list of the rows of integers from the needs to the tops, 0 for other members; None if too many."""
     many = 1
     for at in needs:
-        many = many * max(0, tops[at] - needs[at] + 1)
+        many = many * (tops[at] - needs[at] + 1)
     if many > MAX_BOX:
         return None
     rows = [()]
     for at in range(members):
-        numbers = list(range(needs[at], tops[at] + 1)) if at in needs and many > 0 else [0]
+        numbers = list(range(needs[at], tops[at] + 1)) if at in needs else [0]
         rows = [row + (number,) for row in rows for number in numbers]
-    return rows if many > 0 else []
+    return rows
 
 
 def is_shut(union, single, cell):
@@ -166,6 +166,7 @@ def is_shut(union, single, cell):
     counting = [bound for bound in bounds if counts_there(bound, needs)]
     if any([needed(weights, needs) > most for weights, most in counting]):
         return True
+    # Now no top is less than the need.
     tops = tops_of(counting, needs) if needs else None
     rows = None if tops is None else box_of(len(union), needs, tops)
     if rows is None:

@@ -193,8 +193,7 @@ def never_dearer_union(first, second):
 
 def least_part(union):
     """Return the least part of a union."""
-    members = range(len(union))
-    parts = [part for size in range(1, len(union) + 1) for part in combinations(members, size)]
+    parts = [part for size in range(1, len(union) + 1) for part in combinations(range(len(union)), size)]
     at = 0
     # The whole comes last: what is made for each of its members shows that it is never dearer than itself.
     while not never_dearer_union(tuple([union[member] for member in parts[at]]), union):

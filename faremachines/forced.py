@@ -1,7 +1,7 @@
 """What is forced within so many letters, and the other side's papers ([4.8], [4.10])."""
 
 from faremachines.errors import Missing, NotAllowed, TooLarge
-from faremachines.machines import NONE, least_of, row_by
+from faremachines.machines import NONE, row_by
 from faremachines.regretgame import (
     MAX_POSITIONS, covers, first_positions, has_won, is_position, row_behind, row_paid, turns_from
 )
@@ -28,15 +28,16 @@ def positions_within(machine, many):
     turns = {}
     known = {position: True for position in levels[0]}
     for _ in range(many):
-        fresh = {}
+        fresh = []
         for position in levels[-1]:
             turns[position] = turns_from(machine, alive, position)
             for _, afters in turns[position]:
-                fresh.update({after: True for after in afters if after not in known})
-            if len(known) + len(fresh) > MAX_POSITIONS:
+                fresh.extend([after for after in afters if after not in known])
+                for after in afters:
+                    known[after] = True
+            if len(known) > MAX_POSITIONS:
                 raise TooLarge("more than 3000 positions come up")
-        known.update(fresh)
-        levels.append(list(fresh))
+        levels.append(fresh)
     return levels, turns
 
 

@@ -177,6 +177,21 @@ def value(machine, position, left):
     return worst
 
 
+def positions_within(machine, turns):
+    """Return the list of the positions that come up within so many letters, or more than 3000 of them."""
+    fresh = firsts_of(machine)
+    known = {position: True for position in fresh}
+    for _ in range(turns):
+        ahead, fresh = fresh, []
+        for position in ahead if len(known) <= 3000 else []:
+            for letter in machine[0]:
+                for after, _ in moves_by(machine, position[0], letter):
+                    come = comes(machine, position, letter, after)
+                    fresh += [] if come in known else [come]
+                    known[come] = True
+    return list(known)
+
+
 def gaps_behind(machine, log, way):
     """Return the row of gaps of a walker that has gone a row of states along a log, from the definition."""
     paid = machine[1][way[0]] + sum([step_fare(machine, way[k], letter, way[k + 1]) for k, letter in enumerate(log)])

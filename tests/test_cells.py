@@ -14,6 +14,8 @@ from tests.test_unions import COUNT_A, COUNT_B, EMPTY, ring
 HALF = (("a", "b"), 0, (((1, 0), (1, 0)), ((0, 1), (0, 1))), (0, 0))
 BOTH = (COUNT_A, COUNT_B)
 PAPER = (((0, (0, 0)), (((1, 1), 0),), ()), ((1, (0, 0)), (((1, 1), 1),), ()))
+# It can go the empty log alone.
+LAST = (("a", "b"), 0, (((NONE, NONE), (NONE, NONE)),), (0,))
 CELLS = [((int, [int]), [([int], int)], [([int], int, int)])]
 
 
@@ -300,7 +302,7 @@ class JudgeTest(unittest.TestCase):
             for union in ((up, down), (COUNT_A, COUNT_B)):
                 self.judge(union, single, (cell,))
         # Without moves nothing has to follow.
-        alone = (("a", "b"), 0, (((NONE, NONE), (NONE, NONE)),), (0,))
+        alone = LAST
         kinds = set()
         for union in ((up, down), (COUNT_A, COUNT_B)):
             for most in range(-2, 5):
@@ -312,7 +314,7 @@ class JudgeTest(unittest.TestCase):
 
     def test_just_500_rows(self):
         # One end of two is enough: the other one has no last fare, and its bounds do not count.
-        alone = (("a", "b"), 0, (((NONE, NONE), (NONE, NONE)),), (0,))
+        alone = LAST
         for most, right in ((0, True), (1, True), (499, True), (500, True), (501, False), (502, False), (10 ** 30, False)):
             # Only even gaps keep the rest, and only odd ones the other: none of the rows keeps both.
             cell = ((0, (0, 0)), (((1, 0), most),), (((1, 0), 4, 0), ((1, 0), 2, 0), ((3, 0), 2, 0)))
@@ -326,8 +328,53 @@ class JudgeTest(unittest.TestCase):
             rests = (((1, 0), 1000, 0), ((0, 1), 1000, 0))
             self.judge(BOTH, alone, (((0, (0, 0)), bounds, rests),), right)
 
+    def test_one_cell_alone(self):
+        # Without moves nothing has to follow, so that each cell stands for itself.
+        right = (((1, 1), -1),)
+        self.judge(BOTH, LAST, (((0, (0, 0)), (((1, 1), 1), ((1, 0), 0)), ()),), True)
+        start = ((0, (0, 0)), (((1, 0), 0),), ())
+        for cell, known in (
+            (((0, (0, 0)), right, ()), True), (((0, (0,)), (((1,), -9),), ()), False), (((0, (0, 0)), (((1, 1), 9),), ()), False),
+            (((0, (0, 0)), (((0, 0), -1),), ()), False), (((0, (0, 0)), (), (((0, 0), 2, 1),)), False),
+            (((0, (0, 0)), right, (((1, 1), 2, 1),)), True), (((0, (0, 0)), right, (((1, 1), 2, 2),)), False),
+            (((0, (0, 0)), right, (((1, 1), 2, -1),)), False), (((0, (0, 0)), right, (((1, 1), 1, 0),)), False),
+            (((0, (0, 0, 0)), (((1, 1, 1), -9),), ()), False), (((1, (0, 0)), right, ()), False),
+            (((0, (1, 0)), right, ()), False), (((0, (-2, 0)), right, ()), False), (((0, (NONE, 0)), (((0, 1), 0),), ()), True),
+            (((0, (NONE, 0)), (((1, 0), -1),), ()), False), (((0, (NONE, NONE)), (((0, 0), -1),), ()), False),
+        ):
+            self.judge(BOTH, LAST, (start, cell), known)
+        for paper in ((start[:2] + ((((1, 1), 2, 2),),),), (start[:2] + ((((1, 1), 2, -2),),),), (start[:2] + ((((1, 1), 2, 0),),),)):
+            self.judge(BOTH, LAST, paper, paper[0][2][0][2] == 0)
+
+    def test_the_least_top_counts(self):
+        for tops, known in (((400, 600), True), ((600, 400), True), ((501, 600), False), ((500, 10 ** 9), True)):
+            bounds = tuple([((1, 0), top) for top in tops]) + (((0, 1), 1),)
+            self.judge(BOTH, LAST, (((0, (0, 0)), bounds, (((1, 0), 1000, 0),)),), known)
+
+    def test_only_what_is_0_for_members_that_do_not_end(self):
+        union = (COUNT_A, COUNT_B[:3] + ((NONE,),))
+        for bounds, rests, known in (
+            ((((1, 0), 3), ((-1, 0), 0)), (), False), ((((1, 0), 0),), (), True), ((((1, 0), 3), ((1, 1), 0)), (), False),
+            ((((1, 0), 3), ((-1, 1), -1)), (), False), ((((1, 0), 3),), (((1, 0), 9, 0),), True),
+            ((((1, 0), 3),), (((1, 1), 9, 0),), False), ((((1, 0), 3),), (((1, 0), 3, 0),), False), ((((1, 1), 0),), (), False),
+        ):
+            self.judge(union, LAST, (((0, (0, 0)), bounds, rests),), known)
+
+    def test_what_follows_from_other_weights(self):
+        first, second = PAPER
+        for ones, others in (
+            ((), (((0, 0), -1),)), ((((0, 0), -1),), (((0, 0), -1),)), ((((1, 0), 0),), (((1, 1), 0),)),
+            ((((1, 1), 0),), (((2, 2), 2),)), ((((2, 2), 0),), (((2, 2), 2),)), ((((2, 2), 0),), (((2, 2), 1),)),
+        ):
+            self.judge(BOTH, HALF, ((first[0], first[1] + ones, ()), (second[0], second[1] + others, ())))
+        for ones, others, known in (
+            ((((1, 0), 2, 0),), (((1, 1), 2, 1),), False), ((), (((0, 0), 2, 1),), False), ((), (((0, 0), 2, 0),), True),
+            ((((0, 1), 2, 0),), (((1, 1), 2, 1),), False), ((((0, 0), 2, 0),), (((1, 1), 2, 1),), False),
+        ):
+            self.judge(BOTH, HALF, ((first[0], first[1], ones), (second[0], second[1], others)), known)
+
     def test_members_that_do_not_end(self):
-        alone = (("a", "b"), 0, (((NONE, NONE), (NONE, NONE)),), (0,))
+        alone = LAST
         never = COUNT_A[:3] + ((NONE,),)
         for bounds in ((((1, 0), -9),), (((0, 1), -9),), (((1, 1), -9),), (((-1, 1), -9),), (((0, -1), -9),)):
             for union in ((COUNT_A, never), (never, COUNT_B), (never, never), BOTH):

@@ -301,6 +301,16 @@ class NeverTest(unittest.TestCase):
             self.assertTrue(known_dearer(first, ring(4, [1]), paper))
             self.assertIs(is_never(first, ring(4, [1]), ()), False)
 
+    def test_an_end_that_the_first_one_lacks(self):
+        first, second = ring(2, [1]), ring(2, [0, 1])
+        for more in (-9, 0, 9):
+            self.assertIs(is_never(first, second, ((0, 0, more), (1, 1, more))), False)
+            self.assertIs(is_never(second, first, ((0, 0, more), (1, 1, more))), more == 0)
+            self.assertIs(is_same(first, second, ((0, 0, more), (1, 1, more))), False)
+        self.assertIs(is_dearer(first, second, ((), (), 0, ())), True)
+        self.assertIs(is_dearer(first, second, ((), ("a", "a"), 10 ** 10, ())), True)
+        self.assertIs(is_dearer(first, second, (("a",), ("a", "a"), 10 ** 10, ())), False)
+
     def test_greater_bounds_and_needless_pairs(self):
         for more, right in ((4, False), (5, True), (9, False)):
             first, second = ONE, (("a",), 0, (((0, 1),),), (7,))

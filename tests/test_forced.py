@@ -2,7 +2,9 @@
 
 import random
 import unittest
+from unittest import mock
 
+from faremachines import forced as forced_file
 from faremachines.errors import Missing, NotAllowed, TooLarge
 from faremachines.forced import forced, forced_paper, judge_forced
 from faremachines.regretgame import judge_walker, least_regret, walker_paper
@@ -97,24 +99,29 @@ class ForcedTest(unittest.TestCase):
             with self.assertRaises(TooLarge):
                 forced_paper(machine, 10 ** 6, turns)
 
+    def test_more_positions_than_there_may_be(self):
+        told = {True: 0, False: 0}
+        for machine in random_machines(227, 60) + [dense(3, 3)]:
+            for turns in range(4):
+                known = games.positions_within(machine, turns)
+                for most in (1, 3, len(known) - 1, len(known)):
+                    if known and most > 0:
+                        with mock.patch.object(forced_file, "MAX_POSITIONS", most):
+                            answers = [answer_of(forced, machine, turns), answer_of(forced_paper, machine, 9999, turns)]
+                        large = len(known) > most
+                        # The first positions are never too many.
+                        if len(games.firsts_of(machine)) <= most:
+                            self.assertEqual([answer == "TooLarge" for answer in answers], [large] * 2, (machine, turns))
+                            told[large] += 1
+        self.assertGreater(min(told.values()), 50, told)
+
     def test_just_so_many_positions(self):
         told = {"int": 0, "TooLarge": 0}
-        for machine in (dense(3, 3), dense(4, 2), dense(2, 4), random_machine(random.Random(1), 6, 2, 0.4)):
+        for machine in (dense(3, 3), dense(4, 2), dense(2, 4)):
             for turns in range(9):
-                ups = [games.firsts_of(machine)]
-                known = {position: True for position in ups[0]}
-                while len(ups) <= turns and len(known) <= 3000:
-                    ups.append([])
-                    for position in ups[-2]:
-                        for letter in machine[0]:
-                            for after, _ in games.moves_by(machine, position[0], letter):
-                                come = games.comes(machine, position, letter, after)
-                                if come not in known:
-                                    known[come] = True
-                                    ups[-1].append(come)
-                answer = answer_of(forced, machine, turns)
-                self.assertEqual(answer == "TooLarge", len(known) > 3000, (machine, turns))
-                told["TooLarge" if answer == "TooLarge" else "int"] += 1
+                known = games.positions_within(machine, turns)
+                self.assertEqual(answer_of(forced, machine, turns) == "TooLarge", len(known) > 3000, (machine, turns))
+                told["TooLarge" if len(known) > 3000 else "int"] += 1
                 if len(known) > 3000:
                     break
         self.assertGreater(min(told.values()), 0)

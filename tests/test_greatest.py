@@ -146,6 +146,10 @@ class RowPaperTest(unittest.TestCase):
         for row in ((), (0, 0), (-2,), (7,), (99,)):
             for paper in (((0,), row), (row, (0,)), (row,)):
                 self.assertIs(judge_rows(ALONE, 6, paper), False)
+        # Behind each row nothing is reached, so that all rows of integers from -1 to c may be there.
+        nowhere = (("a",), (0, 0), (((),), ((),)), (NONE, NONE))
+        for row, right in (((0, 1), True), ((4, 4), True), ((0, -2), False), ((5, 0), False), ((0, 5), False), ((-2, 0), False)):
+            self.assertIs(judge_rows(nowhere, 4, tuple(sorted([(-1, -1), (0, 0), row]))), right)
         self.assertIs(judge_rows(ALONE, 6, ((0,), (6,))), False)
         self.assertIs(judge_rows(ALONE, 6, ((-1,), (0,))), True)
         self.assertIs(judge_rows(ALONE, 7, ((0,), (1,))), True)

@@ -193,6 +193,13 @@ class JudgeTest(unittest.TestCase):
         ):
             self.assertIs(judge_closed(ALONE, paper), right, paper)
             self.assertIs(tables.is_closed(ALONE, paper), right)
+        # All else is right with a mark that is none, since it stands where no way leads.
+        nowhere = (("a",), (0, 0), (((),), ((),)), (0, 0))
+        none = ((3, 3), (3, 3))
+        for mark, right in ((3, None), (4, False), (5, False), (2, False), (-1, False), (1, True), (0, True)):
+            paper = tuple(sorted([none, ((3, mark), (3, 3))]))
+            self.assertIs(judge_closed(nowhere, paper), False if right is None else right)
+        self.assertIs(judge_closed(nowhere, (none,)), True)
         # Where no log can be gone, no value is 2.
         self.assertIs(judge_closed((("a",), (0,), ((((0, 1),),),), (NONE,)), (((1,),), ((2,),))), True)
         self.assertIs(judge_closed((("a",), (0,), ((((0, 1),),),), (NONE,)), (((1,),),)), False)
