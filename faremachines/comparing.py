@@ -59,8 +59,7 @@ def greatest_sums(start, first, steps):
         place = queue[at]
         at += 1
         for after, more in steps[place]:
-            if sums[place] is None:
-                break
+            # Behind a place with no greatest sum there is none, either: nothing is added to None.
             if after in sums and (sums[after] is None or sums[after] >= sums[place] + more):
                 continue
             if leads_by(before, place, after):

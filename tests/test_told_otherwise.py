@@ -107,11 +107,12 @@ class OtherwiseTest(unittest.TestCase):
 
     def test_one_state_more(self):
         for machine in MACHINES:
-            for met in (False, True):
+            # Where there was no move at all, one that leads nowhere loses some letters later.
+            for met in (False, True) if machine[2][0][0] else (False,):
                 other = with_one_more(machine, met)
                 self.is_like(machine, other)
                 bests = [answer_of(best_by_state, told) for told in (machine, other)]
-                if "TooLarge" not in bests and not (met and machine[2][0][0] == ()):
+                if "TooLarge" not in bests:
                     self.assertEqual(*[best if isinstance(best, str) else best[0] for best in bests])
 
     def test_all_fares_as_many_times_as_great(self):
