@@ -2,9 +2,8 @@
 
 from faremachines.errors import Missing, NotAllowed, TooLarge
 from faremachines.machines import NONE, row_by
-from faremachines.regretgame import (
-    MAX_POSITIONS, covers, first_positions, has_won, is_position, row_behind, row_paid, turns_from
-)
+from faremachines.regretgame import MAX_POSITIONS, covers, first_positions, has_won, is_position, row_behind
+from faremachines.regretgame import row_paid, turns_from
 from faremachines.walkers import alive_states
 
 MAX_TURNS = 8
@@ -104,6 +103,8 @@ def forced_paper(machine, r, turns):
     least = least_value(machine, values[-1])
     if least is not None and least <= r:
         raise Missing("not more than this is forced")
+    # If none is enough, it is forced for each integer that the walker fails.
+    r = min(r, BEYOND - 1)
     queue = [(position, turns) for position in first_positions(machine)]
     paper = {}
     while queue:

@@ -145,7 +145,7 @@ class PaperTest(unittest.TestCase):
                 if isinstance(least, str):
                     self.assertEqual(answer_of(forced_paper, machine, 0, turns), least)
                     continue
-                for r in (0, 7, 1000) if least is None else (least - 1, least, least + 1):
+                for r in (0, 7, 1000, 9998, 9999, 10000, 10 ** 9) if least is None else (least - 1, least, least + 1):
                     if r < 0:
                         continue
                     if least is not None and r >= least:
