@@ -1,9 +1,9 @@
 """What is forced within so many letters, and the other side's papers ([4.8], [4.10])."""
 
 from faremachines.errors import Missing, NotAllowed, TooLarge
-from faremachines.machines import NONE, row_by
-from faremachines.regretgame import MAX_POSITIONS, covers, first_positions, has_won, is_position, row_behind
-from faremachines.regretgame import row_paid, turns_from
+from faremachines.machines import row_by
+from faremachines.regretgame import MAX_POSITIONS, covers, first_positions, has_won, is_position, least_unwon
+from faremachines.regretgame import row_behind, row_paid, turns_from
 from faremachines.walkers import alive_states
 
 MAX_TURNS = 8
@@ -42,11 +42,8 @@ def positions_within(machine, many):
 
 def forced_now(machine, position):
     """Return the least integer from 0 on for which the other side has not won at a position."""
-    own = machine[3][position[0]]
-    ends = [(state, gap) for state, gap in position[1] if machine[3][state] != NONE]
-    if ends and own == NONE:
-        return BEYOND
-    return max([0] + [gap + own - machine[3][state] for state, gap in ends])
+    least = least_unwon(machine, position)
+    return BEYOND if least is None else least
 
 
 def forced_by(turn, values):

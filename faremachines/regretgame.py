@@ -99,40 +99,81 @@ def turns_from(machine, alive, position):
     return turns
 
 
-def turns_with_cap(machine, alive, position, cap):
-    """Return the list of the turns at a position, with a cap."""
-    turns = turns_from(machine, alive, position)
-    return [(going, [lifted(after, cap) for after in afters]) for going, afters in turns]
+def least_unwon(machine, position):
+    """Return the least integer from 0 on for which the other side has not won at a position, or None."""
+    own = machine[3][position[0]]
+    ends = [(state, gap) for state, gap in position[1] if machine[3][state] != NONE]
+    if ends and own == NONE:
+        return None
+    return max([0] + [gap + own - machine[3][state] for state, gap in ends])
 
 
-def positions_up(machine, r, cap, turns):
-    """Return the list of the positions that come up with a cap, None if these are too many.
+def bound_at(machine, rests, position):
+    """Return the least integer for which neither the other side has won at a position, nor it is lost.
 
-    The turns at positions are put into a dict, which does not depend on r.
+    Return None if there is none. The rests are the least fares to an end.
     """
-    alive = alive_states(machine)
-    rests = least_rests(machine)
-    found = []
-    seen = {}
-    fresh = [lifted(position, cap) for position in first_positions(machine)]
-    while fresh:
-        position = fresh.pop()
-        if position in seen:
-            continue
-        seen[position] = True
-        if has_won(machine, r, position) or any([gap > r + rests[state] for state, gap in position[1]]):
-            continue
-        if len(found) == MAX_POSITIONS:
+    least = least_unwon(machine, position)
+    return None if least is None else max([least] + [gap - rests[state] for state, gap in position[1]])
+
+
+class Capped:
+    """The game of a machine with a cap; what has been found of positions is kept, as it is the same for each r."""
+
+    def __init__(self, machine, cap):
+        """Begin the game of a machine with a cap."""
+        self._machine = machine
+        self._cap = cap
+        self._alive = alive_states(machine)
+        self._rests = least_rests(machine)
+        self._bounds = {}
+        self._turns = {}
+
+    def firsts(self):
+        """Return the list of the first positions."""
+        return [lifted(position, self._cap) for position in first_positions(self._machine)]
+
+    def is_out(self, position, r):
+        """Tell whether a position is left out, as the other side has won there, or it is lost."""
+        if position not in self._bounds:
+            self._bounds[position] = bound_at(self._machine, self._rests, position)
+        bound = self._bounds[position]
+        return bound is None or bound > r
+
+    def turns_at(self, position):
+        """Return the list of the turns at a position."""
+        if position not in self._turns:
+            turns = turns_from(self._machine, self._alive, position)
+            lifts = [(going, [lifted(after, self._cap) for after in afters]) for going, afters in turns]
+            self._turns[position] = lifts
+        return self._turns[position]
+
+    def positions_up(self, r):
+        """Return the list of the positions that come up, None if these are too many."""
+        found = [position for position in self.firsts() if not self.is_out(position, r)]
+        seen = {position: True for position in found}
+        at = 0
+        while at < len(found):
+            for _, afters in self.turns_at(found[at]):
+                for after in afters:
+                    if after not in seen and not self.is_out(after, r):
+                        found.append(after)
+                    seen[after] = True
+            if len(found) > MAX_POSITIONS:
+                return None
+            at += 1
+        return found
+
+    def winning(self, r):
+        """Return a dict with the positions from which the walker wins, None if too many come up."""
+        found = self.positions_up(r)
+        if found is None:
             return None
-        found.append(position)
-        if position not in turns:
-            turns[position] = turns_with_cap(machine, alive, position, cap)
-        fresh.extend([after for _, afters in turns[position] for after in afters])
-    return found
+        return staying(found, {position: self.turns_at(position) for position in found})
 
 
-def winning(found, turns):
-    """Return a dict with those of some positions from which the walker can stay among these."""
+def staying(found, turns):
+    """Return a dict with those of some positions from which the walker can stay among these, by the turns at them."""
     kept = {position: True for position in found}
     left = {}
     ahead = {position: [] for position in found}
@@ -156,18 +197,6 @@ def winning(found, turns):
             if left[(before, at)] == 0:
                 lost.append(before)
     return {position: True for position in found if kept[position]}
-
-
-def wins(machine, r, cap, turns):
-    """Return a dict with the positions from which the walker wins with a cap, None if too many come up."""
-    found = positions_up(machine, r, cap, turns)
-    return None if found is None else winning(found, turns)
-
-
-def begun_winning(machine, cap, won):
-    """Return the list of the first positions from which the walker wins with a cap."""
-    firsts = [lifted(position, cap) for position in first_positions(machine)]
-    return [position for position in firsts if position in won]
 
 
 def answer_by(turn, won, chosen):
@@ -196,11 +225,11 @@ def answers_at(turns, won, chosen):
 def walker_paper(machine, r, cap):
     """Return a right walker's paper."""
     check_numbers(r, cap)
-    turns = {}
-    won = wins(machine, r, cap, turns)
+    game = Capped(machine, cap)
+    won = game.winning(r)
     if won is None:
         raise TooLarge("more than 3000 positions come up")
-    begun = begun_winning(machine, cap, won)
+    begun = [position for position in game.firsts() if position in won]
     if not begun:
         raise Missing("the walker does not win with this cap")
     chosen = {begun[0]: True}
@@ -208,7 +237,7 @@ def walker_paper(machine, r, cap):
     while len(paper) < len(chosen):
         # What has been chosen since comes behind those that were there.
         for position in list(chosen)[len(paper):]:
-            paper.append((position, answers_at(turns[position], won, chosen)))
+            paper.append((position, answers_at(game.turns_at(position), won, chosen)))
     return tuple(sorted(paper))
 
 
@@ -243,31 +272,31 @@ def judge_walker(machine, r, paper):
     return all([is_answered(machine, alive, positions, position, answers) for position, answers in paper])
 
 
-def is_lost(machine, r, cap, turns):
-    """Tell whether the walker does not win with a cap, and that is told."""
-    won = wins(machine, r, cap, turns)
-    return won is not None and not begun_winning(machine, cap, won)
+def is_losing(game, r):
+    """Tell whether the walker does not win a game for r, and not too many positions come up."""
+    won = game.winning(r)
+    return won is not None and not any([position in won for position in game.firsts()])
 
 
 def least_regret(machine, cap):
     """Return the least regret with a cap."""
     check_numbers(0, cap)
-    turns = {}
+    game = Capped(machine, cap)
     low = 0
     high = 0
     # With a greater regret no fewer positions come up, and the walker does not win less.
-    while is_lost(machine, high, cap, turns):
+    while is_losing(game, high):
         if high == MAX_REGRET:
             raise Missing("the walker does not win with this cap")
         low = high + 1
         high = min(2 * high + 1, MAX_REGRET)
     while low < high:
         middle = (low + high) // 2
-        if is_lost(machine, middle, cap, turns):
+        if is_losing(game, middle):
             low = middle + 1
         else:
             high = middle
-    if wins(machine, low, cap, turns) is None:
+    if game.winning(low) is None:
         raise TooLarge("more than 3000 positions come up")
     return low
 
