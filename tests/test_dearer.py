@@ -392,14 +392,16 @@ class NeverTest(unittest.TestCase):
         kind, paper = never_dearer(first, second)
         self.assertEqual((kind, is_dearer(first, second, paper)), ("dearer", True))
         self.assertTrue(known_dearer(first, second, paper))
-        # By b it leads on to a state from which the end is far.
-        rows = tuple([(((state + 1) % 6, 1), (NONE, NONE) if state != 5 else (6, 1)) for state in range(6)])
-        tail = tuple([((NONE, NONE), (min(state + 1, 56), 1)) for state in range(6, 57)])
-        second = (("a", "b"), 0, rows + tail, (NONE,) * 56 + (0,))
-        rows = tuple([(((state + 1) % 7, 1), (min(state, 5), 1)) for state in range(7)])
-        first = (("a", "b"), 0, rows, (0,) * 6 + (NONE,))
+        # The first one stops behind 354 letters, and the second one ends 57 letters later: one log is not enough.
+        stop = (NONE, NONE)
+        rows = [(((state + 1) % 6, 1), stop if state == 5 else ((state + 1) % 6, 1)) for state in range(6)]
+        first = (("a", "b"), 0, tuple(rows), (0,) * 6)
+        rows = [(((state + 1) % 59, 1), (0, 1) if state == 58 else stop) for state in range(59)]
+        second = (("a", "b"), 0, tuple(rows), (NONE,) * 57 + (0, NONE))
         kind, paper = never_dearer(first, second)
-        self.assertTrue(known_dearer(first, second, paper) if kind == "dearer" else known_never(first, second, paper))
+        self.assertEqual((kind, is_dearer(first, second, paper)), ("dearer", True))
+        self.assertTrue(known_dearer(first, second, paper))
+        self.assertEqual(len(paper[0] + paper[3]), 411)
 
     def test_great_fares(self):
         great = (("a",), 1000000, (((0, 1000000),),), (1000000,))
