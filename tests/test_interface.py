@@ -4,9 +4,9 @@ import importlib
 import inspect
 import unittest
 
-from faremachines import bystate, cells, charts, cheapest, comparing, counts, dearer, edited, forced, greatest, growing
-from faremachines import limits, machines, made, regretgame, rounds, singles, slices, texts, unions, walkers, waygrowth
-from faremachines import words
+from faremachines import budgets, bystate, cells, charts, cheapest, comparing, counts, dearer, desk, edited, forced
+from faremachines import games, greatest, growing, limits, machines, made, means, office, regretgame, rounds, singles
+from faremachines import slices, tariffs, texts, unions, walkers, waygrowth, words
 from tests.samples import COUNTER, FORK, FORK_WALKER, NONE, PLAIN, ROWS, SINGLE, STUCK, SWAPPING
 
 NAMES = {
@@ -37,8 +37,18 @@ NAMES = {
     "limits": "MAX_TABLES letter_table combined repeated value_of is_limited closed_paper judge_closed",
     "growing": "MAX_NESTED check_expression table_of log_of growing_paper judge_growing",
     "greatest": "MAX_ROWS first_log row_paper judge_rows greatest_fare",
+    "means": "least_mean greatest_mean mean_paper is_mean_paper mean_of",
+    "games": "worths walker_paper caller_paper is_walker_paper is_caller_paper",
+    "budgets": "MAX_CREDIT needs broke_paper is_broke_paper",
+    "office": "MAX_KEPT MAX_NUMBER MAX_BOUND MAX_IMAGE Office load_office",
+    "desk": "MAX_SCRIPT MAX_LINES run_script",
+    "tariffs": "MAX_UNKNOWNS MAX_RIDE MAX_AMOUNT MAX_RECEIPTS MAX_OTHERS unknowns_of counts_of check_receipts rows_of"
+               " is_tariff",
 }
-METHODS = {edited.Edited: "log fare length edit slice_fare fares_behind fares_from fare_with copy"}
+METHODS = {
+    edited.Edited: "log fare length edit slice_fare fares_behind fares_from fare_with copy",
+    office.Office: "machines log fares changes add drop set_bound set_first set_last set_move edit undo copy image",
+}
 CONSTANTS = (
     (words.MAX_WORD, 8), (words.MAX_LETTERS, 4), (words.MAX_LOG, 400),
     (words.RESERVED, ("letters", "state", "move", "none")),
@@ -48,7 +58,10 @@ CONSTANTS = (
     (regretgame.MAX_POSITIONS, 3000), (forced.MAX_TURNS, 8), (singles.MAX_SINGLE, 60), (singles.MAX_COST, 1000000),
     (dearer.MAX_PAIRS, 400), (dearer.MAX_TIMES, 10 ** 10), (unions.MAX_UNION, 3), (unions.MAX_OWN, 6),
     (cells.MAX_BOX, 500), (comparing.MAX_PART, 2), (comparing.MAX_PLACES, 400), (comparing.MAX_LETTERS_TRIED, 7),
-    (limits.MAX_TABLES, 300), (growing.MAX_NESTED, 30), (greatest.MAX_ROWS, 2000),
+    (limits.MAX_TABLES, 300), (growing.MAX_NESTED, 30), (greatest.MAX_ROWS, 2000), (budgets.MAX_CREDIT, 2000),
+    (office.MAX_KEPT, 6), (office.MAX_NUMBER, 999999), (office.MAX_BOUND, 99999), (office.MAX_IMAGE, 40000),
+    (desk.MAX_SCRIPT, 4000), (desk.MAX_LINES, 100), (tariffs.MAX_UNKNOWNS, 20), (tariffs.MAX_RIDE, 12),
+    (tariffs.MAX_AMOUNT, 9999), (tariffs.MAX_RECEIPTS, 8), (tariffs.MAX_OTHERS, 30),
 )
 
 DRIFT = ((), ("a",), ((0,), (1,), (0, 0), (1, 1)))
@@ -74,6 +87,11 @@ HALF = (("a", "b"), 0, (((1, 0), (1, 0)), ((0, 1), (0, 1))), (0, 0))
 CELLS = (((0, (0, 0)), (((1, 1), 0), ((2, 2), 0)), ()), ((1, (0, 0)), (((1, 1), 1), ((2, 2), 2)), ()))
 ALONE = (("a",), (0,), ((((0, 0),),),), (5,))
 TURNS = ("turns", ("row", ("b", "a")))
+GAME = (("a", "b"), (0, -1), ((((0, 3), (1, 0)), ((0, 2),)), (((0, 5),), ((1, 1),))), (0, 0))
+FRAME = (("a",), (0, NONE), ((((0, 0), (1, 0)),), ((),)), (NONE, 0))
+RECEIPTS = [("paid", ("a",), (0, 1), "=", 7), ("paid", ("a", "a"), (0, 0, 1), "<=", 10)]
+UNITS = [((1, 0, 0, 0), 99), ((0, 1, 0, 0), 99), ((0, 0, 1, 0), 99), ((0, 0, 0, 1), 99)]
+TARIFF = ((2, 1), (5, 2), (5, 1), (0, 1))
 
 # Calls, and what they return.
 CALLS = (
@@ -170,6 +188,25 @@ CALLS = (
     (greatest.row_paper, (ALONE, 6), ((0,),)),
     (greatest.judge_rows, (ALONE, 6, ((0,),)), True),
     (greatest.greatest_fare, (ALONE,), 5),
+    (means.least_mean, (PLAIN,), (1, 2)),
+    (means.greatest_mean, (PLAIN,), (5, 1)),
+    (means.mean_paper, (PLAIN, True), ((5, 1), (), ("b",), ((1,), (1, 1)), (0, 0))),
+    (means.is_mean_paper, (PLAIN, True, ((5, 1), (), ("b",), ((1,), (1, 1)), (0, 0))), True),
+    (means.mean_of, (PLAIN, ("b",), ("a", "b")), (5, 4)),
+    (games.worths, (GAME,), ((5, 2), (5, 2))),
+    (games.walker_paper, (GAME, (5, 2)), (0, 5)),
+    (games.caller_paper, (GAME, (3, 1)), (NONE, NONE)),
+    (games.is_walker_paper, (GAME, (5, 2), (0, 5)), True),
+    (games.is_caller_paper, (GAME, (3, 1), (0, 5)), False),
+    (budgets.needs, (GAME, 3), (0, 2)),
+    (budgets.broke_paper, (GAME, 3, 1, 1), ((1, 1, 1, "a"),)),
+    (budgets.is_broke_paper, (GAME, 3, ((1, 1, 1, "a"),)), True),
+    (desk.run_script, ("letters a\nnew 1\nlog\nfares",), ["ok", "1", "-", "1=none"]),
+    (tariffs.unknowns_of, (FRAME,), [("first", 0), ("move", 0, "a", 0), ("move", 0, "a", 1), ("last", 1)]),
+    (tariffs.counts_of, (FRAME, ("a", "a"), (0, 0, 1)), (1, 1, 1, 1)),
+    (tariffs.check_receipts, (FRAME, RECEIPTS), None),
+    (tariffs.rows_of, (FRAME, RECEIPTS), [((1, 0, 1, 1), 7), ((-1, 0, -1, -1), -7), ((1, 1, 1, 1), 10)] + UNITS),
+    (tariffs.is_tariff, (FRAME, RECEIPTS, TARIFF), True),
 )
 
 
@@ -197,7 +234,8 @@ class InterfaceTest(unittest.TestCase):
         called = {function.__name__ for function, _, _ in CALLS}
         listed = {word for name, words_of in NAMES.items() if name != "errors" for word in words_of.split()}
         classes = {found.__name__ for found in METHODS}
-        self.assertEqual(called | classes, {word for word in listed if not word.isupper()})
+        # What a loaded office is has its own tests.
+        self.assertEqual(called | classes | {"load_office"}, {word for word in listed if not word.isupper()})
 
     def test_methods_stand_in_their_classes(self):
         for found, listed in METHODS.items():

@@ -99,6 +99,15 @@ class LanguageTest(unittest.TestCase):
             self.assertEqual(len(bound), len(set(bound)), path)
             allowed = (ast.Expr, ast.ImportFrom, ast.FunctionDef, ast.ClassDef, ast.Assign)
             self.assertEqual([node for node in tree.body if not isinstance(node, allowed)], [], path)
+            functions = []
             for node in tree.body:
+                if isinstance(node, ast.FunctionDef):
+                    functions.append(node.name)
                 if isinstance(node, ast.Assign):
-                    ast.literal_eval(node.value)
+                    # A table may hold functions that are defined above it; all else in it is plain.
+                    named = [part.id for part in ast.walk(node.value) if isinstance(part, ast.Name)]
+                    self.assertEqual([name for name in named if name not in functions], [], path)
+                    text = ast.unparse(node.value)
+                    for name in named:
+                        text = re.sub(rf"(?<![\w'\"]){name}(?![\w'\"])", "None", text)
+                    ast.literal_eval(text)
