@@ -141,23 +141,21 @@ def random_frame(source, states=3, letters=2):
 
 
 def random_receipts(source, frame, many, longest=3, amiss=0):
-    """Return a list of receipts that are true by the machine's own fares, but where their amounts are amiss."""
+    """Return a list of receipts for a few ways, true by the machine's own fares but where their amounts are amiss."""
+    logs = [log for size in range(longest + 1) for log in itertools.product(frame[0], repeat=size)]
+    pool = [log for log in logs if 0 < len(ways(frame, log)) <= 30]
+    pool = [(log, source.choice(ways(frame, log))) for log in source.sample(pool, min(len(pool), 3))]
     found = []
-    for _ in range(400):
-        log = tuple(source.choices(frame[0], k=source.randrange(longest + 1)))
-        told = ways(frame, log)
-        if len(found) == many or not told:
-            continue
-        way = source.choice(told)
-        own = sum([fare_of_unknown(frame, unknown) for unknown in paid_on(log, way)])
-        if source.random() < 0.3 and len(told) <= 30:
-            cost = {w: sum([fare_of_unknown(frame, unknown) for unknown in paid_on(log, w)]) for w in told}
-            found.append(("least", log, way if source.random() < amiss else min(told, key=lambda w: cost[w])))
+    while pool and len(found) < many:
+        log, way = source.choice(pool)
+        costs = {w: sum([fare_of_unknown(frame, unknown) for unknown in paid_on(log, w)]) for w in ways(frame, log)}
+        if source.random() < 0.3:
+            found.append(("least", log, way if source.random() < amiss else min(costs, key=lambda w: costs[w])))
             continue
         word = source.choice(["=", "<=", ">="])
         more = {"=": 0, "<=": source.randrange(3), ">=": -source.randrange(3)}[word]
-        more += source.choice([-3, -1, 1, 2]) if source.random() < amiss else 0
-        found.append(("paid", log, way, word, max(0, own + more)))
+        more += source.choice([-6, -3, -1, 1, 2, 5]) if source.random() < amiss else 0
+        found.append(("paid", log, way, word, max(0, costs[way] + more)))
     return found
 
 
@@ -179,5 +177,6 @@ def cases(seed, many, receipts=4, amiss=0.4):
     found = []
     while len(found) < many:
         frame = random_frame(source)
-        found.append((frame, random_receipts(source, frame, source.randrange(receipts + 1), 3, source.choice([0, amiss]))))
+        size = source.choice([source.randrange(receipts + 1), receipts])
+        found.append((frame, random_receipts(source, frame, size, 3, source.choice([0, amiss, 1.5 * amiss]))))
     return found

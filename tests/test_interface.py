@@ -4,9 +4,10 @@ import importlib
 import inspect
 import unittest
 
-from faremachines import budgets, bystate, cells, charts, cheapest, comparing, counts, dearer, desk, edited, forced
-from faremachines import games, greatest, growing, limits, machines, made, means, office, regretgame, rounds, singles
-from faremachines import slices, tariffs, texts, unions, walkers, waygrowth, words
+from faremachines import budgets, bystate, cells, charts, cheapest, clashes, closer, closings, comparing, counts, dearer
+from faremachines import desk, edited, fewest, forced, games, greatest, growing, limits, machines, made, means, office
+from faremachines import regretgame, rises, rounds, singles, slices, spans, standing, tariffs, texts, unions, walkers
+from faremachines import waygrowth, words
 from tests.samples import COUNTER, FORK, FORK_WALKER, NONE, PLAIN, ROWS, SINGLE, STUCK, SWAPPING
 
 NAMES = {
@@ -44,6 +45,13 @@ NAMES = {
     "desk": "MAX_SCRIPT MAX_LINES run_script",
     "tariffs": "MAX_UNKNOWNS MAX_RIDE MAX_AMOUNT MAX_RECEIPTS MAX_OTHERS unknowns_of counts_of check_receipts rows_of"
                " is_tariff",
+    "spans": "top_paper is_top_paper contradiction is_contradiction way_span log_span is_certain is_open",
+    "clashes": "first_clash clashes fitting error_paper is_error_paper",
+    "closings": "moves_of closed_machine vital_moves",
+    "fewest": "MAX_CLOSINGS MAX_TREE fewest_closings holds ways_paper judge_ways",
+    "standing": "MAX_STOOD MAX_CLOSED_SETS first_unlimited standing_paper judge_standing",
+    "closer": "MAX_RESERVE forced_fare fares_by_reserve true_numbers judge_above judge_below",
+    "rises": "MAX_RISE fares_by_uses risen_fare corners",
 }
 METHODS = {
     edited.Edited: "log fare length edit slice_fare fares_behind fares_from fare_with copy",
@@ -61,7 +69,9 @@ CONSTANTS = (
     (limits.MAX_TABLES, 300), (growing.MAX_NESTED, 30), (greatest.MAX_ROWS, 2000), (budgets.MAX_CREDIT, 2000),
     (office.MAX_KEPT, 6), (office.MAX_NUMBER, 999999), (office.MAX_BOUND, 99999), (office.MAX_IMAGE, 40000),
     (desk.MAX_SCRIPT, 4000), (desk.MAX_LINES, 100), (tariffs.MAX_UNKNOWNS, 20), (tariffs.MAX_RIDE, 12),
-    (tariffs.MAX_AMOUNT, 9999), (tariffs.MAX_RECEIPTS, 8), (tariffs.MAX_OTHERS, 30),
+    (tariffs.MAX_AMOUNT, 9999), (tariffs.MAX_RECEIPTS, 8), (tariffs.MAX_OTHERS, 30), (fewest.MAX_CLOSINGS, 4),
+    (fewest.MAX_TREE, 3000), (standing.MAX_STOOD, 2), (standing.MAX_CLOSED_SETS, 100), (closer.MAX_RESERVE, 5),
+    (rises.MAX_RISE, 1000000),
 )
 
 DRIFT = ((), ("a",), ((0,), (1,), (0, 0), (1, 1)))
@@ -92,6 +102,17 @@ FRAME = (("a",), (0, NONE), ((((0, 0), (1, 0)),), ((),)), (NONE, 0))
 RECEIPTS = [("paid", ("a",), (0, 1), "=", 7), ("paid", ("a", "a"), (0, 0, 1), "<=", 10)]
 UNITS = [((1, 0, 0, 0), 99), ((0, 1, 0, 0), 99), ((0, 0, 1, 0), 99), ((0, 0, 0, 1), 99)]
 TARIFF = ((2, 1), (5, 2), (5, 1), (0, 1))
+DEAR = ("paid", ("a", "a"), (0, 0, 1), ">=", 11)
+TOP = ((3, 1), ((7, 1), (3, 1), (0, 1), (0, 1)), ((0, 1), (1, 1), (1, 1), (0, 1), (0, 1), (0, 1), (0, 1)))
+AGAINST = ((0, 1), (0, 1), (1, 1), (1, 1), (0, 1), (0, 1), (0, 1), (0, 1))
+AMISS = ((1, 1), ((7, 1), (4, 1), (0, 1), (0, 1)), ((0, 1), (0, 1), (1, 1), (0, 1)), AGAINST)
+PARTED = (
+    ("a",), (0, NONE, NONE, NONE), ((((1, 0), (2, 1)),), (((3, 0),),), (((3, 3),),), ((),)), (NONE, NONE, NONE, 0),
+)
+TWIN = (("a",), (0, NONE), ((((0, 1), (1, 0)),), (((1, 0),),)), (0, 0))
+TREE = ("tree", (0, 1, 3), (("tree", (0, 2, 3), ()), ("tree", (0, 2, 3), ())))
+STOOD = (((), (((1, 0), (3, 0)), ((2, 0), (3, 0)))),)
+LAYERS = (((NONE, 0, 3, NONE),), ((NONE, NONE, NONE, 0),))
 
 # Calls, and what they return.
 CALLS = (
@@ -207,6 +228,37 @@ CALLS = (
     (tariffs.check_receipts, (FRAME, RECEIPTS), None),
     (tariffs.rows_of, (FRAME, RECEIPTS), [((1, 0, 1, 1), 7), ((-1, 0, -1, -1), -7), ((1, 1, 1, 1), 10)] + UNITS),
     (tariffs.is_tariff, (FRAME, RECEIPTS, TARIFF), True),
+    (spans.top_paper, (FRAME, RECEIPTS, (0, 1, 0, 0)), TOP),
+    (spans.is_top_paper, (FRAME, RECEIPTS, (0, 1, 0, 0), TOP), True),
+    (spans.contradiction, (FRAME, [RECEIPTS[1], DEAR]), AGAINST[2:]),
+    (spans.is_contradiction, (FRAME, RECEIPTS + [DEAR], AGAINST), True),
+    (spans.way_span, (FRAME, RECEIPTS, ("a", "a"), (0, 0, 1)), ((7, 1), (10, 1))),
+    (spans.log_span, (FRAME, RECEIPTS, ("a", "a", "a")), ((7, 1), (13, 1))),
+    (spans.is_certain, (FRAME, RECEIPTS, DEAR), False),
+    (spans.is_open, (FRAME, RECEIPTS, DEAR), False),
+    (clashes.first_clash, (FRAME, RECEIPTS + [DEAR]), 3),
+    (clashes.clashes, (FRAME, RECEIPTS + [DEAR]), [(1, 2)]),
+    (clashes.fitting, (FRAME, RECEIPTS + [DEAR]), [(0, 1), (0, 2)]),
+    (clashes.error_paper, (FRAME, RECEIPTS + [DEAR]), AMISS),
+    (clashes.is_error_paper, (FRAME, RECEIPTS + [DEAR], AMISS), True),
+    (closings.moves_of, (PARTED,), [(0, "a", 1), (0, "a", 2), (1, "a", 3), (2, "a", 3)]),
+    (closings.closed_machine, (TWIN, ((0, "a", 0),)), TWIN[:2] + (((((1, 0),),), (((1, 0),),)),) + TWIN[3:]),
+    (closings.vital_moves, (PARTED, ("a", "a")), [((0, "a", 1), 4), ((1, "a", 3), 4)]),
+    (fewest.fewest_closings, (PARTED, ("a", "a"), 4), ((0, "a", 1), (0, "a", 2))),
+    (fewest.holds, (PARTED, ("a", "a"), 2, ((0, "a", 1),)), True),
+    (fewest.ways_paper, (PARTED, ("a", "a"), 4, 1), TREE),
+    (fewest.judge_ways, (PARTED, ("a", "a"), 4, 1, TREE), True),
+    (standing.first_unlimited, (TWIN, 1), ((0, "a", 1),)),
+    (standing.standing_paper, (TWIN, 0), STOOD),
+    (standing.judge_standing, (TWIN, 0, STOOD), True),
+    (closer.forced_fare, (PARTED, ("a", "a"), 1), NONE),
+    (closer.fares_by_reserve, (PARTED, ("a", "a"), 2), [0, NONE, NONE]),
+    (closer.true_numbers, (PARTED, ("a",), 0), LAYERS),
+    (closer.judge_above, (PARTED, ("a",), 0, 5, LAYERS), False),
+    (closer.judge_below, (PARTED, ("a",), 0, NONE, LAYERS), True),
+    (rises.fares_by_uses, (PARTED, ("a", "a"), (0, "a", 1)), [4, 0, NONE]),
+    (rises.risen_fare, (PARTED, ("a", "a"), (0, "a", 1), 3), 3),
+    (rises.corners, (PARTED, ("a", "a"), (0, "a", 1)), [(0, 1), (4, 0)]),
 )
 
 
