@@ -2,7 +2,6 @@
 
 from faremachines.errors import NotAllowed
 from faremachines.machines import NONE, best_way, fare_of, move_fare, way_fare
-from faremachines.words import check_log
 
 
 def moves_of(machine):
@@ -57,7 +56,6 @@ def moves_along(log, way):
 
 def vital_moves(machine, log):
     """Return the list of the pairs of a vital move and of the fare with it closed, or NONE, in order."""
-    check_log(machine[0], log)
     way = best_way(machine, log)
     if way is None:
         return []

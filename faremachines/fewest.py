@@ -113,7 +113,7 @@ class Held:
     def _can(self, closed, many, free):
         """Tell whether closed moves, and at most so many free ones, hold the log."""
         ways = self._unmet(closed, many, free)
-        if ways is None or not ways:
+        if not ways:
             return ways is not None
         tried = min(ways, key=many_in)
         if many == 1:

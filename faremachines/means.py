@@ -5,7 +5,7 @@ from faremachines.errors import Missing, NotAllowed
 from faremachines.machines import NONE, fare_along, fares_behind
 from faremachines.ratios import is_ratio, ratio_of
 from faremachines.rounds import is_back, is_begun, log_along, routes_from, states_met
-from faremachines.words import check_log, is_log
+from faremachines.words import is_log
 
 
 def costly_steps(machine, sign):
@@ -153,11 +153,11 @@ def steps_of_chart(chart, starts):
 
 def mean_of(machine, ahead, ring):
     """Return the mean of the endless log that begins with a log, and goes on with another one again and again."""
-    check_log(machine[0], ring)
     if ring == ():
         raise NotAllowed("what comes again and again is not empty")
+    chart = chart_of(machine, ring)
     starts = [state for state, fare in enumerate(fares_behind(machine, ahead)) if fare != NONE]
-    best = cheapest_round(steps_of_chart(chart_of(machine, ring), starts))
+    best = cheapest_round(steps_of_chart(chart, starts))
     if best is None:
         raise Missing("there is no endless way of this log")
     return ratio_of(best[0], len(best[2]) * len(ring))

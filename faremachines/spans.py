@@ -6,7 +6,6 @@ from faremachines.programs import Program
 from faremachines.ratios import are_ratios_from_0, is_at_most, is_ratio, opposite, ratio_of, shared_terms, weighed_ratio
 from faremachines.tariffs import MAX_OTHERS, all_unknowns, all_ways, check_receipts, check_way, counts_along
 from faremachines.tariffs import is_tariff_told, keeps, rows_by, rows_of_most, rows_told
-from faremachines.words import check_log
 
 
 def check_numbers(frame, numbers):
@@ -104,7 +103,6 @@ def greatest_fare_of(frame, receipts, counts_told):
 def log_span(frame, receipts, log):
     """Return the least and the greatest ratio that a log costs by possible tariffs."""
     check_receipts(frame, receipts)
-    check_log(frame[0], log)
     many = count_ways(frame, log)
     if many > MAX_OTHERS:
         raise TooLarge("the log has more than 30 ways")

@@ -145,8 +145,10 @@ class ErrorPaperTest(unittest.TestCase):
                 # Multipliers twice as great show twice as much, and are above 1 then.
                 twice = tuple([(Fraction(2 * p, q).numerator, Fraction(2 * p, q).denominator) for p, q in paper[3]])
                 double = Fraction(*paper[0]) * 2
-                papers += [paper[:3] + (twice,), ((double.numerator, double.denominator),) + paper[1:3] + (twice,)]
-            for changed in [paper] + source.sample(papers, min(len(papers), 60)) + papers[-2:]:
+                more = tuple([(Fraction(2 * p, q).numerator, Fraction(2 * p, q).denominator) for p, q in paper[2]])
+                double = (double.numerator, double.denominator)
+                papers += [paper[:3] + (twice,), (double,) + paper[1:3] + (twice,), (double, paper[1], more, twice)]
+            for changed in [paper] + source.sample(papers, min(len(papers), 60)) + papers[-3:]:
                 right = told.is_error_paper(frame, receipts, changed)
                 self.assertIs(is_error_paper(frame, receipts, changed), right, (frame, receipts, changed))
                 judged[right] += 1
@@ -171,6 +173,7 @@ class ErrorPaperTest(unittest.TestCase):
             right[:3] + ((zero, zero, (2, 1), (2, 1)) + (zero,) * 4,), right[:3] + ((zero, zero, (1, 1), (1, 2)) + (zero,) * 4,),
             right[:3] + ((zero,) * 8,), right[:3] + (right[3][:-1],), right[:3] + (right[3] + (zero,),),
             ((2, 1),) + right[1:2] + ((zero, zero, (1, 1), (1, 1)), right[3]),
+            ((2, 1),) + right[1:2] + ((zero, zero, (1, 1), (1, 1)), (zero, zero, (2, 1), (2, 1)) + (zero,) * 4),
         ):
             self.assertIs(is_error_paper(FRAME, LIST, changed), False, changed)
 

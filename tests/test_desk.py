@@ -172,6 +172,7 @@ class LineTest(unittest.TestCase):
     def test_letters(self):
         self.assertEqual(answers("letters a a", "letters move", "letters abcdefghi", "letters a b c d e", "log"), ["refused"] * 4 + ["none"])
         self.assertEqual(answers("letters abcdefgh b c d", "log", "letters A"), ["ok", "-", "bad"])
+        self.assertEqual(answers("letters az z", "put 0 z", "put 0 az", "put 0 zzzzzzzzzzz", "log"), ["ok", "ok", "ok", "refused", "az z"])
         # A new office knows nothing of the one before; one that is refused changes nothing.
         self.assertEqual(after_start("letters b a", "fares", "log", "undo", "new 1"), ["ok", "-", "-", "missing", "1"])
         self.assertEqual(after_start("letters b b", "fares", "log"), ["refused", "1=5", "a"])

@@ -8,7 +8,7 @@ from faremachines.errors import NotAllowed
 from faremachines.games import caller_paper, is_caller_paper, is_walker_paper, walker_paper, worths
 from faremachines.means import greatest_mean, least_mean
 from tests import endless
-from tests.samples import COUNTER, FORK, NONE, PLAIN, STUCK, SWAPPING, random_machine, variants
+from tests.samples import COUNTER, NONE, PLAIN, STUCK, SWAPPING, random_machine, variants
 
 GAME = (("a", "b"), (0, NONE), ((((0, 3), (1, 0)), ((0, 2),)), (((0, 5),), ((1, 1),))), (0, 0))
 # State 1 has a last fare, but no move.

@@ -146,8 +146,9 @@ class CornerTest(unittest.TestCase):
         self.assertEqual(corners(lone, ("a",) * 7, (0, "a", 0)), [(0, 7)])
         self.assertEqual(corners(lone, (), (0, "a", 0)), [(0, 0)])
         # Once around costs 8 for four letters: it is worth it as soon as a turn costs 2.
-        found = corners(ROUND, ("a",) * 8, (0, "a", 0))
-        fares = closed.by_uses(ROUND, ("a",) * 8, (0, "a", 0))
+        found = corners(ROUND, ("a",) * 6, (0, "a", 0))
+        fares = closed.by_uses(ROUND, ("a",) * 6, (0, "a", 0))
+        self.assertGreater(len(found), 1)
         expected = []
         for rise in range(120):
             uses = known_fare(fares, rise)[1]

@@ -5,7 +5,7 @@ import unittest
 
 from faremachines.machines import turned
 from faremachines.rounds import is_alike, is_drift, rounds, useful
-from tests.samples import COUNTER, HALF_USEFUL, NONE, PLAIN, SINGLE, STUCK, SWAPPING
+from tests.samples import COUNTER, HALF_USEFUL, NONE, PLAIN, STUCK, SWAPPING
 from tests.samples import closed_useful, levelled_machine, logs_up_to, random_machines, rows_along, step_fare
 from tests.samples import useful_states
 

@@ -6,7 +6,7 @@ from unittest import mock
 
 from faremachines import limits
 from faremachines.closings import closed_machine, moves_of
-from faremachines.errors import Missing, NotAllowed, TooLarge
+from faremachines.errors import NotAllowed, TooLarge
 from faremachines.limits import closed_paper, is_limited
 from faremachines.standing import MAX_CLOSED_SETS, MAX_STOOD, first_unlimited, judge_standing, standing_paper
 from tests import closed

@@ -170,6 +170,8 @@ class ReceiptTest(unittest.TestCase):
         # No receipt, ahead of too many unknowns, receipts or ways, ahead of a way that is none.
         self.is_due(NotAllowed, large, [no_receipt])
         self.is_due(NotAllowed, FRAME, RECEIPTS * 4 + [no_receipt])
+        self.is_due(NotAllowed, FRAME, RECEIPTS * 4 + [("paid", ("b",), (0, 1), "=", 7)])
+        self.is_due(NotAllowed, FRAME, RECEIPTS * 4 + [("least", ("a",) * 13, (0,) * 13 + (1,))])
         self.is_due(NotAllowed, TWICE, [many_ways, no_receipt])
         self.is_due(TooLarge, large, [("paid", ("a",), (9, 9), "=", 7)])
         self.is_due(TooLarge, FRAME, RECEIPTS * 4 + [no_way])
